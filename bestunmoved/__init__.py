@@ -1,0 +1,1 @@
+"""Books at far places, and how soon their doors may answer."""

@@ -1,0 +1,245 @@
+"""How everything is called: [2] and [12].
+
+Each function is called by position and by name, twice; with each parameter that is not as stated, and with two.
+"""
+
+import copy
+import importlib
+import inspect
+import itertools
+
+from bestunmoved.errors import Barred
+from tests.helpers import LONE, NOT_INTEGERS, NOT_NUMBERS, NOT_SPANS, NOT_TUPLES, RING3, SHOP, Case, with_item
+
+FAR = (((0, 1, 3), (1, 0, 2), (None, None, 0)), ("row", "lot"), ((0, (0,), (0,)), (1, (1,), (0,)), (2, (), (0, 1))),
+       ((0, 1, None), (2, 0, 3), (4, None, 0)))
+
+NUMBER = NOT_NUMBERS
+GRAIN = NOT_NUMBERS + (0,)
+PLACE = DOOR = NOT_NUMBERS + (3, 10 ** 30)
+BOOKS = NOT_TUPLES + ((2,), (1, 0), (0, 0), (True,), (None,), (-1,), ("0",), ((0,),), (0, 1, 1))
+LOT = NOT_TUPLES + ((3,), (1, 0), (0, 0), (0, True), (False,), (None,), (-1,), ("0",), ((0,),), (0, 1, 2, 3))
+FULL = LOT + ((),)
+ORDER = NOT_TUPLES + ((), (0, 1), (0, 1, 1), (0, 1, 2, 3), (1, 2, 3), (0, True, 2), (False, 1, 2), (0, None, 2),
+                      ("0", 1, 2), (0, -1, 2), ((0,), 1, 2), ([], [], []), [2, 1, 0])
+SHORT_OR_LONG = NOT_TUPLES + ((), (0,), (2, 2), (2, 2, 2, 2), [2, 2, 2], ((2, 2, 2),))
+WAITS = SHORT_OR_LONG + tuple(with_item((2, 2, 2), k % 3, value) for k, value in enumerate(NOT_NUMBERS))
+STAMPS = SHORT_OR_LONG + tuple(with_item((2, 2, 2), k % 3, value) for k, value in enumerate(NOT_INTEGERS))
+SPANS = SHORT_OR_LONG + tuple(with_item((2, None, 2), k % 3, value) for k, value in enumerate(NOT_SPANS))
+DUTIES = NOT_TUPLES + ((), ((0,),), ((0, 0),) * 2, ((0, 0, 0),) * 4, ((0, 0, 0), (0, 0, 0), (0, 0)),
+                       ((0, 0, 0), (0, 1, 0), (0, 0, 0)), ((0, 0, 0), (0, 0, 0), [0, 0, 0]),
+                       ((0, 0, 0), (0, None, 0), (0, 0, 0)), ((0, 0, True), (0, 0, 0), (0, 0, 0)),
+                       ((0, 0, -1), (0, 0, 0), (0, 0, 0)))
+RING = NOT_TUPLES + ((), (0,), (0, 1), (0, 2, 1), (0, 1, 2, 0), (0, 1, 3), (0, True, 2), [0, 1, 2], ((0, 1, 2),))
+MOMENT = NOT_TUPLES + ((), (0,), (0, 0, 0), [0, 0], (3, 0), (-1, 0), (True, 0), (0, True), (0, None), (None, 0),
+                       (0, "0"), (0, (0,)))
+HOUSE = NOT_TUPLES + ((), SHOP[:3], SHOP + (0,), list(SHOP), with_item(SHOP, 0, ((0, None), (2, 0))),
+                      with_item(SHOP, 0, ((0, True), (2, 0))), with_item(SHOP, 2, ()), with_item(SHOP, 3, ((0, 0),)))
+DEALING = NOT_TUPLES + ((), ((0, 0, 0),) * 2, ((0, 0, 0),) * 4, ((0, 0),) * 3, ((0, 1, 0), (1, 0, 0), (0, 0, 0)),
+                        ((0, 1, 0), (0, 0, True), (0, 0, 0)), ((0, 1, 0), (0, 0, -1), (0, 0, 0)),
+                        [(0, 0, 0)] * 3, ((0, 0, 0), (0, 0, 0), [0, 0, 0]))
+TEXT = tuple(value for value in NOT_TUPLES if not isinstance(value, str)) + ((), ("places",), (0,))
+
+# Module, name, arguments by name in sequence; wrong values of the parameters that are asked.
+CALLS = [
+    ("kinds", "is_integer", {"thing": 3}, {}),
+    ("kinds", "is_number", {"thing": 3}, {}),
+    ("kinds", "is_lot", {"size": 3, "thing": (0, 2)}, {}),
+    ("kinds", "is_order", {"size": 3, "thing": (0, 2, 1)}, {}),
+    ("kinds", "is_ways", {"thing": FAR[0]}, {}),
+    ("kinds", "is_house", {"thing": FAR}, {}),
+    ("dutykinds", "is_duties", {"size": 3, "thing": FAR[3]}, {}),
+    ("dutykinds", "free_duties", {"size": 3}, {}),
+    ("dutykinds", "prompt_duties", {"size": 3}, {}),
+    ("dutykinds", "counter_duties", {"places": (1, 2, 1)}, {}),
+    ("dutykinds", "lag_duties", {"starts": (1, 2, 1), "ends": (0, 1, 2)}, {"ends": WAITS}),
+    ("housechecker", "lets_house", {"thing": FAR}, {}),
+    ("houses", "house_of", {"ways": FAR[0], "books": FAR[1], "doors": FAR[2], "duties": FAR[3]},
+     {"ways": NOT_TUPLES + ((),), "books": NOT_TUPLES + (("row", 0),), "doors": NOT_TUPLES + ((),), "duties": DUTIES}),
+    ("ways", "closed_ways", {"ways": ((0, 1, 9), (None, 0, 2), (None, None, 0))}, {}),
+    ("ways", "way_of", {"house": FAR, "here": 0, "there": 2}, {"here": PLACE, "there": PLACE}),
+    ("sights", "sees", {"house": FAR, "door": 2, "other": 1}, {"door": DOOR, "other": DOOR}),
+    ("sights", "shared_books", {"house": FAR, "door": 2, "other": 1}, {"door": DOOR, "other": DOOR}),
+    ("sights", "hears", {"house": FAR, "door": 2, "other": 1}, {"door": DOOR, "other": DOOR}),
+    ("sights", "sight_pairs", {"house": FAR}, {}),
+    ("sights", "far_pairs", {"house": FAR}, {}),
+    ("sights", "doors_at", {"house": FAR, "place": 2}, {"place": PLACE}),
+    ("sights", "seen_at", {"house": FAR, "place": 2}, {"place": PLACE}),
+    ("housechanges", "later_house", {"house": FAR, "units": 2}, {"units": NUMBER}),
+    ("housechanges", "lengthened", {"house": FAR, "here": 1, "there": 2, "units": 1},
+     {"here": PLACE, "there": PLACE + (1,), "units": NUMBER + (3,)}),
+    ("housechanges", "with_duties", {"house": FAR, "duties": ((0, 0, 0),) * 3}, {"duties": DUTIES}),
+    ("housechanges", "with_door",
+     {"house": FAR, "place": 2, "writes": (1,), "looks": (0, 1), "out": (0, 1, None), "back": (None, 0, 1)},
+     {"place": PLACE, "writes": BOOKS, "looks": BOOKS, "out": SPANS, "back": SPANS}),
+    ("partedhouses", "kept_house", {"house": FAR, "lot": (0, 2)}, {"lot": FULL}),
+    ("partedhouses", "renamed_house", {"house": FAR, "order": (2, 0, 1)}, {"order": ORDER}),
+    ("partedhouses", "beside_house", {"house": FAR, "other": SHOP, "across": 4}, {"other": HOUSE, "across": NOT_SPANS}),
+    ("housetexts", "house_line", {"house": FAR}, {}),
+    ("housereadings", "read_house", {"text": "places 1 0 books doors 1 0 writes looks duties 0"}, {"text": TEXT}),
+    ("tables", "is_table", {"thing": RING3}, {}),
+    ("tables", "table_of", {"house": FAR}, {}),
+    ("tables", "entry_word", {"house": FAR, "door": 2, "other": 1}, {"door": DOOR, "other": DOOR + (2,)}),
+    ("tables", "kept_table", {"table": RING3, "lot": (0, 2)}, {"lot": FULL}),
+    ("tables", "scaled", {"table": RING3, "scale": 2}, {"scale": GRAIN}),
+    ("rings", "is_ring", {"table": RING3, "thing": (1, 2, 0)}, {}),
+    ("rings", "worth_of", {"table": RING3, "ring": (1, 2, 0)}, {"ring": RING}),
+    ("rings", "slack_of", {"table": RING3, "waits": (1, 2, 0), "ring": (1, 2, 0)}, {"waits": WAITS, "ring": RING}),
+    ("judging", "is_kept", {"table": RING3, "waits": (2, 2, 2)}, {"waits": WAITS}),
+    ("judging", "barring_doors", {"table": RING3, "waits": (2, 2, 1)}, {"waits": WAITS}),
+    ("stamps", "suits", {"table": RING3, "waits": (2, 2, 2), "stamps": (0, 1, 0)}, {"waits": WAITS, "stamps": STAMPS}),
+    ("stamps", "least_stamps", {"table": RING3, "waits": (2, 2, 2)}, {"waits": WAITS}),
+    ("stamps", "lets_stamps", {"table": RING3, "waits": (2, 2, 2), "thing": (0, 1, 0)}, {"waits": WAITS}),
+    ("arcs", "ahead_word", {"house": FAR, "grain": 2, "waits": (1, 2, 0), "moment": (1, -3), "other": (0, 9)},
+     {"grain": GRAIN, "waits": WAITS, "moment": MOMENT, "other": MOMENT}),
+    ("ringpapers", "ring_paper", {"table": RING3, "grain": 2, "waits": (2, 1, 0)}, {"grain": GRAIN, "waits": WAITS}),
+    ("ringchecker", "lets_ring", {"table": RING3, "grain": 1, "waits": (1, 1, 1), "thing": ((0, 1), (1, 0), (2, 1))},
+     {"grain": GRAIN, "waits": WAITS}),
+    ("coarse", "is_kept_at", {"table": RING3, "grain": 2, "waits": (2, 2, 2)}, {"grain": GRAIN, "waits": WAITS}),
+    ("coarse", "least_barred", {"table": RING3, "waits": (2, 1, 1)}, {"waits": WAITS}),
+    ("coarse", "coarse_stamps", {"table": RING3, "grain": 1, "waits": (2, 1, 1)}, {"grain": GRAIN, "waits": WAITS}),
+    ("coarse", "lets_coarse", {"table": RING3, "grain": 1, "waits": (2, 1, 1), "thing": (1, 2, 0)},
+     {"grain": GRAIN, "waits": WAITS}),
+    ("rooms", "room_of", {"table": RING3, "waits": (2, 2, 2), "door": 1, "other": 0},
+     {"waits": WAITS, "door": DOOR, "other": DOOR + (1,)}),
+    ("rooms", "room_table", {"table": RING3, "waits": (2, 2, 3)}, {"waits": WAITS}),
+    ("rooms", "tight_ring", {"table": RING3, "waits": (2, 2, 2), "door": 1}, {"waits": WAITS, "door": DOOR}),
+    ("leastwaits", "least_wait", {"table": RING3, "waits": (2, 2, 9), "door": 2}, {"waits": WAITS, "door": DOOR}),
+    ("leastwaits", "lowered", {"table": RING3, "waits": (2, 2, 3), "order": (2, 0, 1)},
+     {"waits": WAITS, "order": ORDER}),
+    ("leastwaits", "is_bare", {"table": RING3, "waits": (1, 2, 3)}, {"waits": WAITS}),
+    ("dealings", "is_dealing", {"table": RING3, "rates": (1, 1, 1), "thing": ((1, 0, 0), (0, 1, 0), (0, 0, 1))},
+     {"rates": WAITS}),
+    ("dealings", "dealing_worth", {"table": RING3, "dealing": ((1, 2, 0), (0, 1, 0), (3, 0, 1))}, {"dealing": DEALING}),
+    ("dealings", "dearest_dealing", {"table": RING3, "rates": (1, 2, 3)}, {"rates": WAITS}),
+    ("dealings", "least_cost", {"table": RING3, "rates": (1, 2, 3)}, {"rates": WAITS}),
+    ("cheapwaits", "cheapest_waits", {"table": RING3, "rates": (1, 2, 3)}, {"rates": WAITS}),
+    ("cheapwaits", "cost_of", {"rates": (1, 2, 3), "waits": (3, 2, 1)}, {"waits": WAITS}),
+    ("cheapwaits", "deal_paper", {"table": RING3, "rates": (1, 2, 3)}, {"rates": WAITS}),
+    ("dealchecker", "lets_deal",
+     {"table": RING3, "rates": (1, 1, 1), "thing": ((3, 1, 2), (0, 0, 0), ((0, 1, 0), (0, 0, 1), (1, 0, 0)))},
+     {"rates": WAITS}),
+    ("permutations", "permutation_worth", {"table": RING3, "lot": (0, 1, 2), "order": (1, 2, 0)},
+     {"lot": LOT, "order": ORDER}),
+    ("permutations", "moving_worth", {"table": RING3, "lot": (0, 1, 2)}, {"lot": LOT}),
+    ("permutations", "within_worth", {"table": RING3, "lot": (0, 1)}, {"lot": LOT}),
+    ("permutations", "diagonal_worth", {"table": RING3, "waits": (3, 0, 1)}, {"waits": WAITS}),
+    ("ringlists", "all_rings", {"table": RING3}, {}),
+    ("ringlists", "dearest_ring", {"table": RING3, "lot": (0, 1, 2)}, {"lot": LOT}),
+    ("means", "dearest_mean", {"table": RING3}, {}),
+    ("means", "even_wait", {"table": RING3}, {}),
+]
+
+# The classes of the interface: module, name, parameters; methods with theirs.
+CLASSES = [
+    ("houseclasses", "House", ["ways", "books", "doors", "duties"],
+     {"sees": ["door", "other"], "hears": ["door", "other"], "later": ["units"], "kept": ["lot"], "told": []}),
+    ("judgeclasses", "Judge", ["house", "waits"],
+     {"kept": [], "stamps": [], "ring": ["grain"], "room": ["door", "other"], "least": ["door"], "bare": ["order"],
+      "told": []}),
+]
+
+# These raise Barred behind all parameters; so also where a later one is wrong, that one is told.
+BARRED = {"least_stamps", "coarse_stamps", "room_of", "room_table", "tight_ring", "lowered"}
+
+
+def found(module, name):
+    """The function or class of that name, in that file."""
+    return getattr(importlib.import_module("bestunmoved." + module), name)
+
+
+def plain(result):
+    """The result; of a generator the list of what it gives."""
+    return list(result) if inspect.isgenerator(result) else result
+
+
+def names_of(call):
+    """The names of the parameters, none of them with a default or a star."""
+    parameters = list(inspect.signature(call).parameters.values())
+    assert all(one.kind is one.POSITIONAL_OR_KEYWORD and one.default is one.empty for one in parameters)
+    return [one.name for one in parameters]
+
+
+class Calls(Case):
+
+    def test_by_position_and_by_name_and_twice(self):
+        for module, name, named, _ in CALLS:
+            call = found(module, name)
+            held = copy.deepcopy(named)
+            first = plain(call(*named.values()))
+            self.same(plain(call(**named)), first, name)
+            self.same(plain(call(**dict(reversed(list(named.items()))))), first, name)
+            self.same(plain(call(*named.values())), first, name)
+            self.same(named, held, name)
+
+    def test_where_and_how_they_are_defined(self):
+        for module, name, named, _ in CALLS:
+            call = found(module, name)
+            self.assertEqual(call.__module__, "bestunmoved." + module)
+            self.assertEqual(names_of(call), list(named))
+        for module, name, parameters, methods in CLASSES:
+            made = found(module, name)
+            self.assertEqual(made.__module__, "bestunmoved." + module)
+            self.assertEqual(names_of(made), parameters)
+            for method, own in methods.items():
+                self.assertEqual(names_of(vars(made)[method]), ["self"] + own)
+
+    def test_each_wrong_parameter(self):
+        for module, name, named, wrong in CALLS:
+            call = found(module, name)
+            for word, values in wrong.items():
+                for value in values:
+                    self.unusable(word, lambda **given: plain(call(**given)), **dict(named, **{word: value}))
+
+    def test_first_of_two_wrong_parameters(self):
+        for module, name, named, wrong in CALLS:
+            call = found(module, name)
+            for one, other in itertools.combinations(wrong, 2):
+                for first in wrong[one][:6] + wrong[one][-2:]:
+                    for second in wrong[other][:6] + wrong[other][-2:]:
+                        self.unusable(one, call, **dict(named, **{one: first, other: second}))
+
+    def test_wrong_things_are_never_errors_of_parameters(self):
+        for module, name, named, _ in CALLS:
+            if name.startswith("is_") and "thing" in named:
+                for value in NOT_TUPLES + NOT_NUMBERS + (((),), ((0,),), "places", (None,) * 4, ([],) * 3):
+                    self.assertIs(found(module, name)(**dict(named, thing=value)).__class__, bool)
+
+    def test_barred_comes_behind_the_parameters(self):
+        done = set()
+        for module, name, named, wrong in CALLS:
+            if name not in BARRED:
+                continue
+            call = found(module, name)
+            given = dict(named, waits=(1, 1, 0))
+            if "grain" in named:
+                given["grain"] = 1
+            with self.assertRaises(Barred) as held:
+                call(**given)
+            self.assertEqual(sorted(held.exception.ring), [0, 1, 2])
+            self.assertIs(held.exception.ring.__class__, tuple)
+            for word in wrong:
+                if word != "waits":
+                    self.unusable(word, call, **dict(given, **{word: wrong[word][0]}))
+            done.add(name)
+        self.assertEqual(done, BARRED)
+
+    def test_a_call_that_raises_changes_nothing(self):
+        for module, name, named, wrong in CALLS:
+            call = found(module, name)
+            first = plain(call(**named))
+            for word, values in wrong.items():
+                given = dict(named, **{word: values[-1]})
+                held = copy.deepcopy(given)
+                self.unusable(word, call, **given)
+                self.same(given, held)
+            self.same(plain(call(**named)), first)
+
+    def test_least_values(self):
+        one = ((0,),)
+        for module, name, named, _ in CALLS:
+            if list(named) in (["table"], ["table", "waits"], ["table", "rates"], ["table", "grain", "waits"]):
+                given = {"table": one, "waits": (0,), "rates": (0,), "grain": 1}
+                plain(found(module, name)(**{word: given[word] for word in named}))
+            if list(named) == ["house"]:
+                found(module, name)(LONE)

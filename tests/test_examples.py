@@ -1,0 +1,63 @@
+"""Each example of the document, as it is printed there."""
+
+import importlib
+
+from bestunmoved.errors import UnmovedError
+from tests.helpers import RING3, SHOP, Case
+
+EXAMPLES = [
+    ("kinds", "is_lot(3, (0, 2)), is_lot(3, (0, 3)), is_order(0, ())", "(True, False, True)"),
+    ("dutykinds", "counter_duties((5, 2)), lag_duties((1, 2), (0, 4))", "(((0, None), (None, 0)), ((0, 5), (2, 0)))"),
+    ("houses", 'house_of(((0, 1, 9), (None, 0, 2), (None, None, 0)), ("lot",), ((2, (), (0, 0)), (0, (0,), ())), '
+               '((0, None), (3, 0)))',
+     "(((0, 1, 3), (None, 0, 2), (None, None, 0)), ('lot',), ((2, (), (0,)), (0, (0,), ())), ((0, None), (3, 0)))"),
+    ("sights", "sees(SHOP, 0, 1), shared_books(SHOP, 1, 0), hears(SHOP, 0, 1), hears(SHOP, 1, 1)",
+     "(False, (0,), 2, 0)"),
+    ("housechanges", "with_door(SHOP, 0, (), (0,), (None, 0), (1, None))[3]", "((0, 0, 1), (0, 0, None), (None, 0, 0))"),
+    ("partedhouses", "kept_house(SHOP, (1,))[2], renamed_house(SHOP, (1, 0))[2]",
+     "(((1, (), (0,)),), ((1, (), (0,)), (0, (0,), ())))"),
+    ("housetexts", "house_line(SHOP)",
+     "'places 2 0 2 2 0 books row doors 2 0 writes 0 looks 1 writes looks 0 duties 0 0 0 0'"),
+    ("housereadings", 'read_house("places 1 0 books doors 1 0 writes looks")', "InvalidText(0, 9)"),
+    ("tables", "table_of(SHOP)", "((0, 0), (2, 0))"),
+    ("tables", "[entry_word(SHOP, 1, 0), entry_word(SHOP, 0, 1)]", "['sight', 'duty']"),
+    ("tables", "kept_table(RING3, (0, 2))", "((0, None), (2, 0))"),
+    ("tables", "is_table(((0,),))", "True"),
+    ("rings", "[is_ring(RING3, (1, 2, 0)), is_ring(RING3, (0, 2, 1))]", "[True, False]"),
+    ("rings", "worth_of(RING3, (1, 2, 0))", "6"),
+    ("rings", "slack_of(RING3, (1, 2, 0), (0, 1, 2))", "-3"),
+    ("judging", "[is_kept(RING3, (2, 2, 2)), is_kept(RING3, (2, 2, 1))]", "[True, False]"),
+    ("stamps", "least_stamps(RING3, (2, 2, 2))", "(0, 1, 0)"),
+    ("stamps", "lets_stamps(RING3, (2, 2, 2), (0, 1, 0))", "(2, 1, 2)"),
+    ("stamps", "lets_stamps(RING3, (2, 2, 2), (0, 0, 0))", "InvalidPaper('pair', 1)"),
+    ("arcs", "ahead_word(SHOP, 2, (1, 0), (0, 0), (1, 3))", "'duty'"),
+    ("arcs", "ahead_word(SHOP, 2, (1, 0), (1, 3), (0, 0))", "'sight'"),
+    ("ringchecker", "lets_ring(((0, 0), (2, 0)), 2, (1, 0), ((0, 0), (1, 3)))", "(0, 1)"),
+    ("coarse", "[is_kept_at(RING3, 1, (2, 1, 1)), is_kept_at(RING3, 1, (1, 1, 1))]", "[True, False]"),
+    ("coarse", "least_barred(RING3, (2, 1, 1))", "2"),
+    ("coarse", "coarse_stamps(RING3, 1, (2, 1, 1))", "(1, 2, 0)"),
+    ("rooms", "[room_of(RING3, (2, 2, 2), 0, 1), room_of(RING3, (2, 2, 2), 1, 0)]", "[3, 1]"),
+    ("rooms", "room_table(RING3, (2, 2, 3))", "((0, 4, 3), (1, 0, 2), (3, 4, 0))"),
+    ("leastwaits", "least_wait(RING3, (2, 2, 9), 2)", "2"),
+    ("leastwaits", "lowered(RING3, (2, 2, 3), (0, 1, 2))", "(1, 2, 3)"),
+    ("leastwaits", "[is_bare(RING3, (1, 2, 3)), is_bare(RING3, (2, 2, 3))]", "[True, False]"),
+    ("judgeclasses", "Judge(SHOP, (3, 0)).bare((1, 0)).told()[1]", "(2, 0)"),
+    ("dealings", "least_cost(RING3, (2, 1, 3))", "6"),
+    ("dealchecker", "lets_deal(RING3, (1, 1, 1), ((3, 1, 2), (0, 0, 0), ((0, 1, 0), (0, 0, 1), (1, 0, 0))))", "6"),
+    ("permutations", "moving_worth(RING3, (0, 1)), within_worth(RING3, (0, 1)), diagonal_worth(RING3, (3, 0, 1))",
+     "(None, 0, 6)"),
+    ("ringlists", "list(all_rings(((0, 1, 1), (1, 0, 1), (1, 1, 0))))", "[(0, 1), (0, 1, 2), (0, 2), (0, 2, 1), (1, 2)]"),
+    ("means", "dearest_mean(RING3), even_wait(RING3)", "((2, 1), 2)"),
+]
+
+
+class Examples(Case):
+
+    def test_each(self):
+        for module, code, printed in EXAMPLES:
+            names = dict(vars(importlib.import_module("bestunmoved." + module)), SHOP=SHOP, RING3=RING3)
+            try:
+                got = repr(eval(code, names))
+            except UnmovedError as raised:
+                got = "%s(%s)" % (raised.__class__.__name__, ", ".join(map(repr, vars(raised).values())))
+            self.assertEqual(got, printed, code)

@@ -26,11 +26,11 @@ def least_gain(sums, door):
     last = sums[many][door]
     if last is None:
         return None
-    least = None
-    for steps in range(many):
-        known = sums[steps][door]
-        gain = None if known is None else (last - known, many - steps)
-        if gain is not None and (least is None or is_above(least, gain)):
+    least = (last - sums[0][door], many)
+    for steps in range(1, many):
+        # There are shorter walks, too: the ends of the long one.
+        gain = (last - sums[steps][door], many - steps)
+        if is_above(least, gain):
             least = gain
     return least
 

@@ -1,6 +1,8 @@
 """Each example of the document, as it is printed there."""
 
+import doctest
 import importlib
+import pathlib
 
 from bestunmoved.errors import UnmovedError
 from tests.helpers import RING3, SHOP, Case
@@ -61,3 +63,9 @@ class Examples(Case):
             except UnmovedError as raised:
                 got = "%s(%s)" % (raised.__class__.__name__, ", ".join(map(repr, vars(raised).values())))
             self.assertEqual(got, printed, code)
+
+    def test_readme(self):
+        readme = pathlib.Path(__file__).resolve().parent.parent / "README.md"
+        failed, tried = doctest.testfile(str(readme), module_relative=False)
+        self.assertEqual(failed, 0)
+        self.assertGreater(tried, 8)

@@ -93,6 +93,10 @@ class Lines(Case):
         house = big_house()
         self.assertGreater(len(house_line(house)), 3000)
         self.same(read_house(house_line(house)), house)
+        for many in (str(10 ** 60), str(10 ** 60 - 1), str(10 ** 180 + 5), "40" * 100):
+            line = "places 2 0 " + many + " 0 0 books doors 1 0 writes looks duties 0"
+            self.same(read_house(line)[0], ((0, int(many)), (0, 0)))
+            self.same(house_line(read_house(line)), line)
         many = "7" * 9000
         line = "places 2 0 " + many + " 0 0 books doors 1 0 writes looks duties 0"
         self.same(house_line(read_house(line)) == line, True)

@@ -8,7 +8,7 @@ import importlib
 import inspect
 import itertools
 
-from bestunmoved.errors import Barred
+from bestunmoved.errors import Barred, Misshown
 from tests.helpers import LONE, NOT_INTEGERS, NOT_NUMBERS, NOT_SPANS, NOT_TUPLES, RING3, SHOP, Case, with_item
 
 FAR = (((0, 1, 3), (1, 0, 2), (None, None, 0)), ("row", "lot"), ((0, (0,), (0,)), (1, (1,), (0,)), (2, (), (0, 1))),
@@ -38,6 +38,19 @@ HOUSE = NOT_TUPLES + ((), SHOP[:3], SHOP + (0,), list(SHOP), with_item(SHOP, 0, 
 DEALING = NOT_TUPLES + ((), ((0, 0, 0),) * 2, ((0, 0, 0),) * 4, ((0, 0),) * 3, ((0, 1, 0), (1, 0, 0), (0, 0, 0)),
                         ((0, 1, 0), (0, 0, True), (0, 0, 0)), ((0, 1, 0), (0, 0, -1), (0, 0, 0)),
                         [(0, 0, 0)] * 3, ((0, 0, 0), (0, 0, 0), [0, 0, 0]))
+PAIR_LOT = LOT + ((), (0,), (1,), (0, 1), (0, 2), (1, 2))
+TABLE = NOT_TUPLES + ((), ((0,),), ((0, 0),) * 2, ((0, 0, 0),) * 4, ((0, 0, 0), (0, 1, 0), (0, 0, 0)),
+                      ((0, 0, True), (0, 0, 0), (0, 0, 0)), [(0, 0, 0)] * 3, ((0, 0, 0), (0, 0, 0), [0, 0, 0]))
+UNIFORM = (((0, 4, 4), (4, 0, 4), (4, 4, 0)),) + FAR[1:3] + (((0, 0, 0),) * 3,)
+DEEDS = ((0, 0, 1), (1, 1, 2), (2, 5, 6))
+RUN = ((0, 0, 1, ((),)), (1, 1, 2, ((0,),)), (2, 5, 6, ((0,), (1,))))
+NOT_DEEDS = NOT_TUPLES + (list(DEEDS), with_item(DEEDS, 0, (0, 0)), with_item(DEEDS, 1, [1, 1, 2]),
+                          with_item(DEEDS, 2, (3, 5, 6)), with_item(DEEDS, 2, (2, 5, 4)), with_item(DEEDS, 1, (1, True, 2)))
+HISTORY = NOT_TUPLES + (list(RUN), DEEDS, with_item(RUN, 0, (0, 0, 1, ())), with_item(RUN, 1, (1, 1, 2, ((True,),))),
+                        with_item(RUN, 2, (2, 5, 6, ((0,), (1, 0)))), with_item(RUN, 2, (2, 5, 4, ((0,), (1,)))),
+                        with_item(RUN, 2, (3, 5, 6, ((0,), (1,)))))
+# Faults: its first deed shows itself, and then others do.
+FAULTY = ((0, 0, 1, ((0,),)), (1, 1, 2, ((7,),)), (2, 5, 6, ((1,), (1,))))
 TEXT = tuple(value for value in NOT_TUPLES if not isinstance(value, str)) + ((), ("places",), (0,))
 
 # Module, name, arguments by name in sequence; wrong values of the parameters that are asked.
@@ -128,6 +141,46 @@ CALLS = [
     ("ringlists", "dearest_ring", {"table": RING3, "lot": (0, 1, 2)}, {"lot": LOT}),
     ("means", "dearest_mean", {"table": RING3}, {}),
     ("means", "even_wait", {"table": RING3}, {}),
+    ("laters", "later_by", {"house": FAR, "waits": (9, 9, 9)}, {"waits": WAITS}),
+    ("laters", "way_room", {"house": FAR, "waits": (9, 9, 9), "here": 1, "there": 2},
+     {"waits": WAITS, "here": PLACE, "there": PLACE + (1,)}),
+    ("laters", "uses_of", {"house": FAR, "ring": (0, 1), "here": 0, "there": 1},
+     {"ring": NOT_TUPLES + ((), (0,), (0, 2), (0, 3), (0, 0), (0, 1, 0), (0, True), [0, 1], ((0, 1),)), "here": PLACE,
+      "there": PLACE}),
+    ("atonce", "may_at_once", {"table": RING3, "lot": (0, 2)}, {"lot": LOT}),
+    ("atonce", "at_once_waits", {"table": RING3, "lot": (0, 2)}, {"lot": LOT + ((0, 1, 2),)}),
+    ("atonce", "at_once_lots", {"table": RING3}, {}),
+    ("uniform", "is_uniform", {"house": UNIFORM}, {}),
+    ("uniform", "sight_most", {"house": FAR, "rates": (1, 2, 3)}, {"rates": WAITS}),
+    ("uniform", "uniform_waits", {"house": UNIFORM, "rates": (1, 2, 3)}, {"house": (FAR,), "rates": WAITS}),
+    ("sharplots", "lot_worths", {"table": RING3}, {}),
+    ("sharplots", "sharp_lots", {"table": RING3}, {}),
+    ("sharplots", "keeps_lots", {"table": RING3, "scale": 2, "numbers": (4, 4, 3)},
+     {"scale": GRAIN, "numbers": WAITS}),
+    ("sharplots", "sharp_paper", {"table": RING3, "lot": (0, 1, 2)}, {"lot": PAIR_LOT}),
+    ("sharplots", "cover_paper", {"table": RING3, "lot": (0, 1, 2)}, {"lot": PAIR_LOT}),
+    ("sharpchecker", "lets_sharp", {"table": RING3, "lot": (0, 1, 2), "thing": (1, (0, 5, 0))}, {"lot": PAIR_LOT}),
+    ("sharpchecker", "lets_cover", {"table": ((0, 1, 0), (1, 0, 1), (0, 1, 0)), "lot": (0, 1, 2),
+                                    "thing": (1, (((0, 1), 1),))}, {"lot": LOT + ((), (0,), (1,))}),
+    ("alikes", "waits_alike", {"table": RING3, "other": ((0, 0, 0),) * 3}, {"other": TABLE}),
+    ("alikes", "telling_waits", {"table": RING3, "other": ((0, 0, 0),) * 3}, {"other": TABLE}),
+    ("historykinds", "is_deeds", {"house": FAR, "thing": DEEDS}, {}),
+    ("historykinds", "is_history", {"house": FAR, "thing": RUN}, {}),
+    ("historykinds", "first_fault", {"house": FAR, "history": FAULTY}, {"history": HISTORY}),
+    ("historychecker", "lets_history", {"house": FAR, "thing": RUN}, {}),
+    ("forced", "forced_words", {"house": FAR, "grain": 2, "history": RUN, "one": 0, "other": 2},
+     {"grain": GRAIN, "history": HISTORY, "one": DOOR, "other": DOOR + (0,)}),
+    ("forced", "forced_pairs", {"house": FAR, "grain": 2, "history": RUN}, {"grain": GRAIN, "history": HISTORY}),
+    ("orders", "order_of", {"house": FAR, "grain": 2, "history": RUN}, {"grain": GRAIN, "history": HISTORY}),
+    ("orders", "keeps_order", {"house": FAR, "grain": 2, "history": RUN, "thing": (0, 1, 2)},
+     {"grain": GRAIN, "history": HISTORY}),
+    ("orders", "deed_ring", {"house": FAR, "grain": 2, "history": RUN}, {"grain": GRAIN, "history": HISTORY}),
+    ("verdicts", "verdict_of", {"house": FAR, "grain": 2, "history": RUN}, {"grain": GRAIN, "history": HISTORY}),
+    ("verdictchecker", "lets_verdict", {"house": FAR, "grain": 2, "history": RUN, "thing": ("order", (0, 1, 2))},
+     {"grain": GRAIN, "history": HISTORY}),
+    ("dues", "due_history", {"house": FAR, "deeds": DEEDS, "order": (2, 0, 1)}, {"deeds": NOT_DEEDS, "order": ORDER}),
+    ("dues", "late_deeds", {"house": FAR, "grain": 1, "waits": (0, 1, 0), "history": RUN},
+     {"grain": GRAIN, "waits": WAITS, "history": HISTORY}),
 ]
 
 # The classes of the interface: module, name, parameters; methods with theirs.
@@ -137,10 +190,15 @@ CLASSES = [
     ("judgeclasses", "Judge", ["house", "waits"],
      {"kept": [], "stamps": [], "ring": ["grain"], "room": ["door", "other"], "least": ["door"], "bare": ["order"],
       "told": []}),
+    ("priceclasses", "Prices", ["table", "rates"],
+     {"cost": [], "waits": [], "dealing": [], "mean": [], "even": [], "paper": [], "told": []}),
 ]
 
 # These raise Barred behind all parameters; so also where a later one is wrong, that one is told.
 BARRED = {"least_stamps", "coarse_stamps", "room_of", "room_table", "tight_ring", "lowered"}
+
+# These raise Misshown behind all parameters.
+MISSHOWN = {"forced_words", "forced_pairs", "order_of", "keeps_order", "deed_ring", "late_deeds"}
 
 
 def found(module, name):
@@ -223,6 +281,18 @@ class Calls(Case):
                     self.unusable(word, call, **dict(given, **{word: wrong[word][0]}))
             done.add(name)
         self.assertEqual(done, BARRED)
+
+    def test_misshown_comes_behind_the_parameters(self):
+        done = set()
+        for module, name, named, wrong in CALLS:
+            if name in MISSHOWN:
+                done.add(name)
+                given = dict(named, history=FAULTY)
+                self.fails(Misshown, (0, 0, "own"), found(module, name), **given)
+                for word in wrong:
+                    if word != "history":
+                        self.unusable(word, found(module, name), **dict(given, **{word: wrong[word][0]}))
+        self.assertEqual(done, MISSHOWN)
 
     def test_a_call_that_raises_changes_nothing(self):
         for module, name, named, wrong in CALLS:

@@ -6,6 +6,9 @@ import pathlib
 
 from bestunmoved.errors import UnmovedError
 from tests.helpers import RING3, SHOP, Case
+from tests.slowdeeds import MET, MISSED
+
+ONES = ((0, 1, 1), (1, 0, 1), (1, 1, 0))
 
 EXAMPLES = [
     ("kinds", "is_lot(3, (0, 2)), is_lot(3, (0, 3)), is_order(0, ())", "(True, False, True)"),
@@ -50,6 +53,21 @@ EXAMPLES = [
      "(None, 0, 6)"),
     ("ringlists", "list(all_rings(((0, 1, 1), (1, 0, 1), (1, 1, 0))))", "[(0, 1), (0, 1, 2), (0, 2), (0, 2, 1), (1, 2)]"),
     ("means", "dearest_mean(RING3), even_wait(RING3)", "((2, 1), 2)"),
+    ("laters", "later_by(SHOP, (1, 2)), way_room(SHOP, (1, 2), 1, 0), uses_of(SHOP, (1, 0), 0, 1)", "(1, None, 1)"),
+    ("uniform", "uniform_waits(SHOP, (1, 3))", "(2, 0)"),
+    ("sharplots", "sharp_lots(ONES)", "(((0, 1), 2), ((0, 2), 2), ((1, 2), 2))"),
+    ("sharpchecker", "lets_cover(ONES, (0, 1, 2), (2, (((0, 1), 1), ((0, 2), 1), ((1, 2), 1))))", "6"),
+    ("historykinds", "first_fault(SHOP, ((0, 0, 2, ()), (1, 3, 3, ((0, 0, 1),))))", "(1, 0, 'writes')"),
+    ("historychecker", "lets_history(SHOP, MET)", "2"),
+    ("forced", "forced_words(SHOP, 2, MET, 0, 1)", "('shown', 'duty')"),
+    ("forced", "forced_pairs(SHOP, 2, MISSED)", "((0, 1), (1, 0))"),
+    ("orders", "order_of(SHOP, 1, ((0, 0, 3, ()), (0, 2, 3, ()), (1, 5, 5, ((1, 0),))))", "(1, 0, 2)"),
+    ("orders", "sorted(deed_ring(SHOP, 2, MISSED))", "[0, 1]"),
+    ("verdicts", "verdict_of(SHOP, 2, ((1, 0, 0, ((1,),)),))", "('fault', 0, 0, 'none')"),
+    ("verdictchecker", 'lets_verdict(SHOP, 2, MISSED, ("ring", (0, 1)))', "'ring'"),
+    ("verdictchecker", 'lets_verdict(SHOP, 2, MET, ("order", (1, 0)))', "InvalidPaper('ahead', 1)"),
+    ("dues", "due_history(SHOP, ((0, 0, 2), (1, 3, 3)), (1, 0)) == MISSED", "True"),
+    ("dues", "late_deeds(SHOP, 2, (0, 0), MET)", "(0,)"),
 ]
 
 
@@ -57,7 +75,8 @@ class Examples(Case):
 
     def test_each(self):
         for module, code, printed in EXAMPLES:
-            names = dict(vars(importlib.import_module("bestunmoved." + module)), SHOP=SHOP, RING3=RING3)
+            names = dict(vars(importlib.import_module("bestunmoved." + module)), SHOP=SHOP, RING3=RING3, ONES=ONES,
+                         MET=MET, MISSED=MISSED)
             try:
                 got = repr(eval(code, names))
             except UnmovedError as raised:

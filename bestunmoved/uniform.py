@@ -39,15 +39,14 @@ def uniform_waits(house, rates):
     """Any kept waits of least cost, each 0, the way between unlike places or twice it.
 
     A wait is cut into a front, above its stamp, and a back, the stamp; a front and a back are together at least
-    the entry from the one door to the other. With ways of 1, and backs of which the least is 0, fronts are 0 or
-    1 if they are as small as the backs let, and then backs that are as small as the fronts let are at most 1.
+    the entry from the one door to the other. With ways of 1, fronts are within 1 of each other if they are as
+    small as the backs let; so are backs that are then as small as the fronts let, and no two are above 2 together.
     """
     need(is_uniform(house), "house")
     need_numbers(len(house[2]), rates, "rates")
     table = sight_table(house)
     stamps = deal_paper(table, rates)[1]
-    least = min(stamps)
-    fronts = [max([entry - stamp + least for entry, stamp in zip(row, stamps)]) for row in table]
+    fronts = [max([entry - stamp for entry, stamp in zip(row, stamps)]) for row in table]
     backs = [max([row[door] - front for row, front in zip(table, fronts)]) for door in range(len(table))]
     way = max(far_ways(house), default=0)
     return tuple([way * (front + back) for front, back in zip(fronts, backs)])

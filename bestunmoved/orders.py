@@ -4,6 +4,7 @@ from bestunmoved.forced import need_grain_history, pairs_forced
 from bestunmoved.historykinds import need_faultless
 from bestunmoved.judging import ring_behind
 from bestunmoved.kinds import is_order
+from bestunmoved.rings import ring_steps
 
 
 def least_order(many, pairs):
@@ -62,6 +63,19 @@ def keeps_order(house, grain, history, thing):
     if not is_order(len(history), thing):
         return False
     return reversed_place(thing, pairs_forced(house, grain, history)) is None
+
+
+def are_ring_deeds(deeds):
+    """Whether these are at least two deeds, all different."""
+    return len(deeds) > 1 and len(set(deeds)) == len(deeds)
+
+
+def unforced_place(ring, pairs):
+    """The first place in the ring of a deed that is not forced ahead of the next one, or None."""
+    for at, step in enumerate(ring_steps(ring)):
+        if step not in pairs:
+            return at
+    return None
 
 
 def deed_ring(house, grain, history):

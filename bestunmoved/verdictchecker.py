@@ -4,8 +4,7 @@ from bestunmoved.errors import InvalidPaper
 from bestunmoved.forced import need_grain_history, pairs_forced
 from bestunmoved.historykinds import fault_of
 from bestunmoved.kinds import is_below, is_integer, is_order, is_sized
-from bestunmoved.orders import reversed_place
-from bestunmoved.rings import ring_steps
+from bestunmoved.orders import are_ring_deeds, reversed_place, unforced_place
 
 
 def has_shape(many, thing):
@@ -36,11 +35,11 @@ def check_order(many, pairs, order):
 
 def check_ring(pairs, ring):
     """Raises InvalidPaper unless ring is at least two different deeds, each step one of the pairs."""
-    if len(ring) < 2 or len(set(ring)) < len(ring):
+    if not are_ring_deeds(ring):
         raise InvalidPaper("ring", -1)
-    for at, step in enumerate(ring_steps(ring)):
-        if step not in pairs:
-            raise InvalidPaper("forced", at)
+    place = unforced_place(ring, pairs)
+    if place is not None:
+        raise InvalidPaper("forced", place)
 
 
 def lets_verdict(house, grain, history, thing):

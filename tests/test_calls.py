@@ -51,6 +51,25 @@ HISTORY = NOT_TUPLES + (list(RUN), DEEDS, with_item(RUN, 0, (0, 0, 1, ())), with
                         with_item(RUN, 2, (3, 5, 6, ((0,), (1,)))))
 # Faults: its first deed shows itself, and then others do.
 FAULTY = ((0, 0, 1, ((0,),)), (1, 1, 2, ((7,),)), (2, 5, 6, ((1,), (1,))))
+ASKS = ((0, 0), (1, 1), (2, 5))
+NEWS = ((0, 1, 3), (2, 0, 2), (None, None, 0))
+NOT_ASKS = NOT_TUPLES + (list(ASKS), ASKS[::-1], with_item(ASKS, 1, (3, 1)), with_item(ASKS, 1, (1, True)),
+                         with_item(ASKS, 2, (2,)), with_item(ASKS, 0, (0, -1)), with_item(ASKS, 0, [0, 0]))
+NOT_NEWS = NOT_TUPLES + ((), NEWS[:2], list(NEWS), with_item(NEWS, 0, (1, 1, 3)), with_item(NEWS, 1, (2, 0)),
+                         with_item(NEWS, 1, (None, 0, 2)), with_item(NEWS, 2, (0, None, 0)), with_item(NEWS, 1, (True, 0, 2)))
+PROGRAM = (("stamp", 1, -1), ("known", 0, 0), ("here", 2, 5))
+NOT_PROGRAM = NOT_TUPLES + ((), PROGRAM[:2], list(PROGRAM), with_item(PROGRAM, 0, ("own", 1, 0)),
+                            with_item(PROGRAM, 1, ("known", -1, 0)), with_item(PROGRAM, 2, ("here", 0, None)),
+                            with_item(PROGRAM, 2, ("here", True, 0)), with_item(PROGRAM, 2, ("here", 0)))
+RUNNING = {"house": FAR, "grain": 2, "waits": (1, 2, 0), "stamps": (0, -1, 1), "asks": ASKS, "news": NEWS}
+NOT_RUNNING = {"grain": GRAIN, "waits": WAITS, "stamps": STAMPS, "asks": NOT_ASKS, "news": NOT_NEWS}
+STANDING = {word: value for word, value in RUNNING.items() if word not in ("waits", "news")}
+NOT_STANDING = {word: value for word, value in NOT_RUNNING.items() if word not in ("waits", "news")}
+DUE = {word: value for word, value in RUNNING.items() if word != "news"}
+NOT_DUE = {word: value for word, value in NOT_RUNNING.items() if word != "news"}
+BREAKING = (("stamp", 0, 0), ("known", 0, 0), ("here", 0, 5))
+FERRY = (4, (((0, 0, 0, 0), (3, 2, 1, 4)), ((2, 2, 2, 2), (0, 0, 0, 0))), ("row",), ((0, (0,), ()), (1, (), (0,))),
+         ((0, 0), (0, 0)))
 TEXT = tuple(value for value in NOT_TUPLES if not isinstance(value, str)) + ((), ("places",), (0,))
 
 # Module, name, arguments by name in sequence; wrong values of the parameters that are asked.
@@ -181,6 +200,52 @@ CALLS = [
     ("dues", "due_history", {"house": FAR, "deeds": DEEDS, "order": (2, 0, 1)}, {"deeds": NOT_DEEDS, "order": ORDER}),
     ("dues", "late_deeds", {"house": FAR, "grain": 1, "waits": (0, 1, 0), "history": RUN},
      {"grain": GRAIN, "waits": WAITS, "history": HISTORY}),
+    ("historychanges", "history_kept", {"house": FAR, "history": RUN, "lot": (0,)}, {"history": HISTORY, "lot": FULL}),
+    ("historychanges", "renumbered", {"house": FAR, "history": RUN, "order": (2, 0, 1)},
+     {"history": HISTORY, "order": ORDER}),
+    ("historychanges", "regrained", {"house": FAR, "history": RUN, "scale": 3}, {"history": HISTORY, "scale": GRAIN}),
+    ("historychanges", "later_history", {"house": FAR, "history": RUN, "beats": 3},
+     {"history": HISTORY, "beats": NUMBER}),
+    ("historytexts", "history_line", {"house": FAR, "history": RUN}, {"history": HISTORY}),
+    ("historytexts", "read_history", {"house": FAR, "text": "0 0 1 -; 1 1 2 0; 2 5 6 0 1"}, {"text": TEXT}),
+    ("askkinds", "is_asks", {"house": FAR, "thing": ASKS}, {}),
+    ("askkinds", "is_news", {"house": FAR, "asks": ASKS, "thing": NEWS}, {"asks": NOT_ASKS}),
+    ("news", "latest_news", {"house": FAR, "grain": 2, "asks": ASKS}, {"grain": GRAIN, "asks": NOT_ASKS}),
+    ("news", "quick_news", {"house": FAR, "asks": ASKS}, {"asks": NOT_ASKS}),
+    ("news", "late_letters", {"house": FAR, "grain": 2, "asks": ASKS, "news": NEWS},
+     {"grain": GRAIN, "asks": NOT_ASKS, "news": NOT_NEWS}),
+    ("news", "in_time", {"house": FAR, "grain": 2, "asks": ASKS, "news": NEWS},
+     {"grain": GRAIN, "asks": NOT_ASKS, "news": NOT_NEWS}),
+    ("news", "known_at", {"house": FAR, "asks": ASKS, "news": NEWS, "place": 1, "moment": 1},
+     {"asks": NOT_ASKS, "news": NOT_NEWS, "place": PLACE, "moment": NUMBER}),
+    ("standings", "stamp_of", dict(STANDING, deed=2), dict(NOT_STANDING, deed=DOOR)),
+    ("standings", "standing_of", STANDING, NOT_STANDING),
+    ("standings", "due_run", DUE, NOT_DUE),
+    ("stampruns", "stamp_run", RUNNING, NOT_RUNNING),
+    ("programs", "is_program", {"house": FAR, "thing": PROGRAM}, {}),
+    ("programs", "stamp_program", {"house": FAR, "waits": (1, 2, 0), "stamps": (0, -1, 1)},
+     {"waits": WAITS, "stamps": STAMPS}),
+    ("programs", "waits_of", {"house": FAR, "program": PROGRAM}, {"program": NOT_PROGRAM}),
+    ("programs", "program_run", {"house": FAR, "grain": 2, "program": PROGRAM, "asks": ASKS, "news": NEWS},
+     {"grain": GRAIN, "program": NOT_PROGRAM, "asks": NOT_ASKS, "news": NOT_NEWS}),
+    ("breaking", "breaking_run", {"house": FAR, "program": BREAKING}, {"program": NOT_PROGRAM}),
+    ("breaking", "lets_break", {"house": SHOP, "program": (("stamp", 1, 0), ("known", 0, 0)),
+                                "thing": (((0, 0), (1, 3)), ((0, 0, 2, ()), (1, 3, 3, ((),))), (0, 1))},
+     {"program": tuple(value for value in NOT_PROGRAM if value != PROGRAM[:2])}),
+    ("spoils", "spoilt_deeds", RUNNING, NOT_RUNNING),
+    ("spoils", "lacked_by", dict(RUNNING, deed=2), dict(NOT_RUNNING, deed=DOOR)),
+    ("folds", "cut_of", dict(DUE, place=1, moment=3), dict(NOT_DUE, place=PLACE, moment=NUMBER)),
+    ("folds", "fold_of", dict(RUNNING, place=1, moment=3), dict(NOT_RUNNING, place=PLACE, moment=NUMBER)),
+    ("folds", "shown_from", dict(RUNNING, place=1, moment=3, deed=1),
+     dict(NOT_RUNNING, place=PLACE, moment=NUMBER, deed=DOOR + (0, 2))),
+    ("runtexts", "asks_line", {"house": FAR, "asks": ASKS}, {"asks": NOT_ASKS}),
+    ("runtexts", "read_asks", {"house": FAR, "text": "0 0; 1 1; 2 5"}, {"text": TEXT}),
+    ("runtexts", "program_line", {"house": FAR, "program": PROGRAM}, {"program": NOT_PROGRAM}),
+    ("runtexts", "read_program", {"house": FAR, "text": "stamp 1 -1; known 0 0; here 2 5"}, {"text": TEXT}),
+    ("daykinds", "is_delays", {"day": 4, "thing": (3, 2, 1, 4)}, {}),
+    ("daykinds", "is_dayhouse", {"thing": FERRY}, {}),
+    ("daykinds", "is_dayrows", {"dayhouse": FERRY, "thing": ((0, 0, 0, 0), (3, 2, 1, 0))}, {}),
+    ("daychecker", "lets_dayhouse", {"thing": FERRY}, {}),
 ]
 
 # The classes of the interface: module, name, parameters; methods with theirs.
@@ -192,13 +257,18 @@ CLASSES = [
       "told": []}),
     ("priceclasses", "Prices", ["table", "rates"],
      {"cost": [], "waits": [], "dealing": [], "mean": [], "even": [], "paper": [], "told": []}),
+    ("historyclasses", "History", ["house", "grain", "history"],
+     {"order": [], "ring": [], "verdict": [], "late": ["waits"], "kept": ["lot"], "told": []}),
+    ("runclasses", "Run", ["house", "grain", "waits", "stamps", "asks", "news"],
+     {"history": [], "due": [], "spoilt": [], "cut": ["place", "moment"], "verdict": [], "told": []}),
 ]
 
 # These raise Barred behind all parameters; so also where a later one is wrong, that one is told.
 BARRED = {"least_stamps", "coarse_stamps", "room_of", "room_table", "tight_ring", "lowered"}
 
 # These raise Misshown behind all parameters.
-MISSHOWN = {"forced_words", "forced_pairs", "order_of", "keeps_order", "deed_ring", "late_deeds"}
+MISSHOWN = {"forced_words", "forced_pairs", "order_of", "keeps_order", "deed_ring", "late_deeds", "history_kept",
+            "renumbered", "regrained", "later_history", "history_line"}
 
 
 def found(module, name):
@@ -241,6 +311,13 @@ class Calls(Case):
             self.assertEqual(names_of(made), parameters)
             for method, own in methods.items():
                 self.assertEqual(names_of(vars(made)[method]), ["self"] + own)
+
+    def test_asks_of_takes_any_number_of_pairs(self):
+        call = found("askkinds", "asks_of")
+        self.assertEqual(call.__module__, "bestunmoved.askkinds")
+        kinds = [(one.name, one.kind, one.default) for one in inspect.signature(call).parameters.values()]
+        self.assertEqual(kinds, [("house", inspect.Parameter.POSITIONAL_OR_KEYWORD, inspect.Parameter.empty),
+                                 ("pairs", inspect.Parameter.VAR_POSITIONAL, inspect.Parameter.empty)])
 
     def test_each_wrong_parameter(self):
         for module, name, named, wrong in CALLS:

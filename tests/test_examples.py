@@ -68,6 +68,22 @@ EXAMPLES = [
     ("verdictchecker", 'lets_verdict(SHOP, 2, MET, ("order", (1, 0)))', "InvalidPaper('ahead', 1)"),
     ("dues", "due_history(SHOP, ((0, 0, 2), (1, 3, 3)), (1, 0)) == MISSED", "True"),
     ("dues", "late_deeds(SHOP, 2, (0, 0), MET)", "(0,)"),
+    ("historychanges", "history_kept(SHOP, MISSED, (1,))", "((0, 3, 3, ((),)),)"),
+    ("historychanges", "renumbered(SHOP, MET, (1, 0))", "((1, 3, 3, ((1,),)), (0, 0, 2, ()))"),
+    ("historytexts", "history_line(SHOP, MET)", "'0 0 2; 1 3 3 0'"),
+    ("historytexts", 'read_history(SHOP, "0 0 2; 1 3 3")', "InvalidText(1, 3)"),
+    ("historyclasses", "History(SHOP, 2, MET).kept((0,)).told()[2]", "((0, 0, 2, ()),)"),
+    ("stampruns", "stamp_run(SHOP, 2, (1, 0), (0, 0), ((0, 0), (1, 3)), ((0, 4), (4, 0)))",
+     "((0, 0, 2, ()), (1, 3, 3, ((),)))"),
+    ("programs", 'program_run(SHOP, 1, (("here", 0, 0), ("known", 0, 5)), ((0, 0), (0, 1), (1, 4)), '
+                 '((0, 4), (0, 1), (3, 0)))', "((0, 0, 0, ()), (0, 1, 1, ()), (1, 4, 4, ((1, 0),)))"),
+    ("breaking", 'lets_break(SHOP, (("stamp", 1, 0), ("known", 0, 0)), '
+                 '(((0, 0), (1, 3)), ((0, 0, 2, ()), (1, 3, 3, ((),))), (0, 1)))', "(0, 1)"),
+    ("spoils", "spoilt_deeds(SHOP, 2, (1, 0), (0, 0), ((0, 0), (1, 3)), ((0, 4), (4, 0)))", "(1,)"),
+    ("folds", "cut_of(SHOP, 2, (0, 2), (0, 0), ((0, 0), (1, 3)), 1, 5)", "2"),
+    ("folds", "fold_of(SHOP, 2, (0, 2), (0, 0), ((0, 0), (1, 3)), ((0, 4), (4, 0)), 1, 5)", "(((0,),), ())"),
+    ("runtexts", "asks_line(SHOP, ((0, 0), (1, 3)))", "'0 0; 1 3'"),
+    ("runtexts", 'program_line(SHOP, (("stamp", 2, -1), ("known", 0, 0)))', "'stamp 2 -1; known 0 0'"),
 ]
 
 

@@ -21,7 +21,7 @@ def history_kept(house, history, lot):
     need_faultless(house, history)
     kept = [at for at, deed in enumerate(history) if deed[0] in lot]
     numbers = {old: new for new, old in enumerate(kept)}
-    need(all([deed in numbers for at in kept for deeds in history[at][3] for deed in deeds]), "lot")
+    need(all([deed in numbers for at in kept for book in history[at][3] for deed in book]), "lot")
     deeds = []
     for at in kept:
         door, asked, answered, shown = history[at]

@@ -229,6 +229,19 @@ class Breaking(Case):
         self.refused("ring", ((), (), ()))
         self.refused("ring", (((0, 0),), ((0, 0, 2, ()),), (0,)))
 
+    def test_checker_asks_at_the_grain_of_the_doors(self):
+        # A duty of two units is four beats: the looker, asked at 3, need not stand behind; asked at 5 it must.
+        house = with_item(SHOP, 3, ((0, 2), (0, 0)))
+        program = (("stamp", 0, 9), ("stamp", 0, 0))
+        for asked, fine in ((3, False), (5, True)):
+            asks = ((0, 0), (1, asked))
+            history = program_run(house, 2, program, asks, latest_news(house, 2, asks))
+            self.same(history[1][3], ((),))
+            if fine:
+                self.same(lets_break(house, program, (asks, history, (0, 1))), (0, 1))
+            else:
+                self.refused("ring", (asks, history, (0, 1)), program, house)
+
     def test_checker_does_not_ask_whether_waits_are_kept(self):
         # Kept waits leave no ring with letters in time, and so only the ring is refused.
         program = (("stamp", 2, 2), ("stamp", 0, 0))

@@ -82,7 +82,7 @@ def best_cover(inner, lot):
         rows, scale = pivoted(rows, scale, at, column), rows[at][column]
         basis[at] = column
         column = entering_column(rows)
-    numbers = [rows[basis.index(column)][-1] if column in basis else 0 for column in range(len(inner))]
+    numbers = [rows[basis.index(place)][-1] if place in basis else 0 for place in range(len(inner))]
     return (scale, numbers, rows[-1][len(inner):-1])
 
 

@@ -5,20 +5,25 @@ from bestunmoved.helpers import need
 from bestunmoved.kinds import is_below, is_number, is_sized
 
 
-def times_word(house, deed):
-    """The word of what is wrong with the door and the moments of a deed, or None."""
-    if not is_below(len(house[2]), deed[0]):
+def times_word(doors, deed):
+    """The word of what is wrong with the door, of so many, and the moments of a deed; or None."""
+    if not is_below(doors, deed[0]):
         return "door"
     if not is_number(deed[1]):
         return "asked"
     return None if is_number(deed[2]) and deed[2] >= deed[1] else "answered"
 
 
-def is_deeds(house, thing):
-    """Whether thing is a tuple of triples (door, asked, answered)."""
+def are_deeds(doors, thing):
+    """Whether thing is a tuple of triples (door, asked, answered), of so many doors."""
     if not isinstance(thing, tuple):
         return False
-    return all([is_sized(3, deed) and times_word(house, deed) is None for deed in thing])
+    return all([is_sized(3, deed) and times_word(doors, deed) is None for deed in thing])
+
+
+def is_deeds(house, thing):
+    """Whether thing is a tuple of triples (door, asked, answered) of doors of the house."""
+    return are_deeds(len(house[2]), thing)
 
 
 def is_shown_in(kind, thing):
@@ -40,7 +45,7 @@ def deed_word(house, deed):
     """The word of what is wrong with the form of a deed, or None."""
     if not is_sized(4, deed):
         return "deed"
-    word = times_word(house, deed)
+    word = times_word(len(house[2]), deed)
     if word is None and not is_shown(house, deed[0], deed[3]):
         return "shown"
     return word

@@ -29,13 +29,17 @@ def strict_door(door):
     return (door[0], tuple(sorted(set(door[1]))), tuple(sorted(set(door[2]))))
 
 
-def house_of(ways, books, doors, duties):
-    """The house with these parts, its ways closed."""
-    need(rows_fault(ways) is None, "ways")
+def house_with(closed, books, doors, duties):
+    """The house with these ways, which are closed, and the other parts, each asked in its turn."""
     need(books_fault(books) is None, "books")
-    need(are_loose_doors(len(ways), len(books), doors), "doors")
+    need(are_loose_doors(len(closed), len(books), doors), "doors")
     need(duties_fault(len(doors), duties) is None, "duties")
-    closed = closed_ways(ways)
     strict = tuple([strict_door(door) for door in doors])
     need_heard(closed, strict)
     return (closed, books, strict, duties)
+
+
+def house_of(ways, books, doors, duties):
+    """The house with these parts, its ways closed."""
+    need(rows_fault(ways) is None, "ways")
+    return house_with(closed_ways(ways), books, doors, duties)

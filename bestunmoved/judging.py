@@ -56,14 +56,22 @@ def falling_ring(costs):
     return ring_behind(befores, fallen)
 
 
+def is_raised(costs, heights):
+    """Raises the heights once along all costs; whether one of them rose."""
+    rose = False
+    for door, row in enumerate(costs):
+        for other, cost in enumerate(row):
+            if cost is not None and heights[door] - cost > heights[other]:
+                heights[other] = heights[door] - cost
+                rose = True
+    return rose
+
+
 def least_heights(costs):
     """The least heights that suit the costs and are all at least 0; no ring of costs is below 0."""
     heights = [0 for _ in costs]
-    for _ in costs:
-        for door, row in enumerate(costs):
-            for other, cost in enumerate(row):
-                if cost is not None and heights[door] - cost > heights[other]:
-                    heights[other] = heights[door] - cost
+    while is_raised(costs, heights):
+        pass
     return tuple(heights)
 
 

@@ -9,7 +9,8 @@ import inspect
 import itertools
 
 from bestunmoved.errors import Barred, Misshown
-from tests.helpers import LONE, NOT_INTEGERS, NOT_NUMBERS, NOT_SPANS, NOT_TUPLES, RING3, SHOP, Case, with_item
+from tests.helpers import LONE, NOT_INTEGERS, NOT_NUMBERS, NOT_SPANS, NOT_TUPLES, RING3, SHOP, Case, with_item, with_part
+from tests.slowdays import FERRY
 
 FAR = (((0, 1, 3), (1, 0, 2), (None, None, 0)), ("row", "lot"), ((0, (0,), (0,)), (1, (1,), (0,)), (2, (), (0, 1))),
        ((0, 1, None), (2, 0, 3), (4, None, 0)))
@@ -68,8 +69,25 @@ NOT_STANDING = {word: value for word, value in NOT_RUNNING.items() if word not i
 DUE = {word: value for word, value in RUNNING.items() if word != "news"}
 NOT_DUE = {word: value for word, value in NOT_RUNNING.items() if word != "news"}
 BREAKING = (("stamp", 0, 0), ("known", 0, 0), ("here", 0, 5))
-FERRY = (4, (((0, 0, 0, 0), (3, 2, 1, 4)), ((2, 2, 2, 2), (0, 0, 0, 0))), ("row",), ((0, (0,), ()), (1, (), (0,))),
-         ((0, 0), (0, 0)))
+DAYFAR = (2, tuple(tuple(None if way is None else (way, way + 1) for way in row) for row in FAR[0])) + FAR[1:]
+DAYFAR = with_part(with_part(with_part(DAYFAR, (1, 0, 0), (0, 0)), (1, 1, 1), (0, 0)), (1, 2, 2), (0, 0))
+DAYROWS = ((1, 2), (0, 3), (4, 4))
+NOT_DAYROWS = NOT_TUPLES + ((), DAYROWS[:2], DAYROWS + ((0, 0),), list(DAYROWS), with_item(DAYROWS, 0, (1,)),
+                            with_item(DAYROWS, 1, (0, 3, 3)), with_item(DAYROWS, 1, [0, 3]), with_item(DAYROWS, 2, None),
+                            with_item(DAYROWS, 2, (4, -1)), with_item(DAYROWS, 0, (True, 2)), with_item(DAYROWS, 0, (None, 2)))
+DAYSTAMPS = ((1, -2), (0, 3), (-4, 4))
+NOT_DAYSTAMPS = tuple(value for value in NOT_DAYROWS if value != with_item(DAYROWS, 2, (4, -1)))
+HOUR = NOT_INTEGERS
+STEP = MOMENT
+DAYRUN = {"dayhouse": DAYFAR, "dayrows": DAYROWS, "stamps": DAYSTAMPS, "asks": ASKS, "news": NEWS}
+NOT_DAYRUN = {"dayrows": NOT_DAYROWS, "stamps": NOT_DAYSTAMPS, "asks": NOT_ASKS, "news": NOT_NEWS}
+HOP = ((0, 3, 1), (None, 0, None), (None, 1, 0))
+PARTING = NOT_TUPLES + ((), (0, 0), (0, 0, 0, 0), (1, 1, 1), (0, 0, 1), (0, 2, 2), (0, 1, 3), (0, 1, -1), (0, True, 0),
+                        (False, 0, 0), (0, None, 0), [0, 0, 2], ((0, 0, 2),))
+JOINING = ((0, 0, 0), (1, 9, 9), (2, 4, 4))
+NOT_JOINING = NOT_TUPLES + (list(JOINING), with_item(JOINING, 0, (0, 0)), with_item(JOINING, 1, [1, 9, 9]),
+                            with_item(JOINING, 2, (3, 5, 6)), with_item(JOINING, 2, (2, 5, 4)),
+                            with_item(JOINING, 1, (1, True, 2)), with_item(JOINING, 1, (1, -1, 2)))
 TEXT = tuple(value for value in NOT_TUPLES if not isinstance(value, str)) + ((), ("places",), (0,))
 
 # Module, name, arguments by name in sequence; wrong values of the parameters that are asked.
@@ -246,6 +264,69 @@ CALLS = [
     ("daykinds", "is_dayhouse", {"thing": FERRY}, {}),
     ("daykinds", "is_dayrows", {"dayhouse": FERRY, "thing": ((0, 0, 0, 0), (3, 2, 1, 0))}, {}),
     ("daychecker", "lets_dayhouse", {"thing": FERRY}, {}),
+    ("delays", "ship_delays", {"day": 4, "ships": ((2, 1), (0, 9))},
+     {"ships": NOT_TUPLES + ((), ((4, 1),), ((2, 1), (-1, 0)), ((2, -1),), ((2, True),), ((2,),), [(2, 1)], ((2, 1, 1),),
+                             ([2, 1],), ((None, 1),), (2, 1))}),
+    ("delays", "same_delays", {"day": 4, "units": 3}, {"units": NUMBER}),
+    ("delays", "closed_delays", {"day": 2, "ways": (((0, 0), (1, 2)), (None, (0, 0)))}, {}),
+    ("delays", "coming", {"delays": (3, 2, 1, 4), "hour": -1}, {"hour": HOUR}),
+    ("dayhouses", "dayhouse_of", {"day": 2, "ways": DAYFAR[1], "books": FAR[1], "doors": FAR[2], "duties": FAR[3]},
+     {"day": GRAIN, "ways": NOT_TUPLES + ((), (((0, 0),),) * 2, (((0, 0), (3, 1)), (None, (0, 0))), (((0, 1),),),
+                                          ((None,),), (((0,),),), [[(0, 0)]], ((0,),)),
+      "books": NOT_TUPLES + (("row", 0),), "doors": NOT_TUPLES + ((),), "duties": DUTIES}),
+    ("dayhouses", "same_day", {"house": FAR, "day": 3}, {"day": GRAIN}),
+    ("dayhouses", "same_rows", {"day": 3, "waits": (1, 0, 7, 7)},
+     {"waits": NOT_TUPLES + tuple(with_item((1, 0, 7), 1, value) for value in NOT_NUMBERS)}),
+    ("dayhouses", "longest_house", {"dayhouse": DAYFAR}, {}),
+    ("dayarcs", "answer_hour", {"dayhouse": DAYFAR, "dayrows": DAYROWS, "door": 1, "hour": -7},
+     {"dayrows": NOT_DAYROWS, "door": DOOR, "hour": HOUR}),
+    ("dayarcs", "day_word", {"dayhouse": DAYFAR, "dayrows": DAYROWS, "one": (1, 1), "other": (0, 9)},
+     {"dayrows": NOT_DAYROWS, "one": STEP, "other": STEP}),
+    ("dayarcs", "first_ahead", {"dayhouse": DAYFAR, "dayrows": DAYROWS, "one": (1, 1), "door": 0},
+     {"dayrows": NOT_DAYROWS, "one": STEP, "door": DOOR}),
+    ("dayjudge", "day_kept", {"dayhouse": DAYFAR, "dayrows": DAYROWS}, {"dayrows": NOT_DAYROWS}),
+    ("dayjudge", "day_ring", {"dayhouse": DAYFAR, "dayrows": ((0, 0),) * 3}, {"dayrows": NOT_DAYROWS}),
+    ("dayjudge", "day_stamps", {"dayhouse": DAYFAR, "dayrows": DAYROWS}, {"dayrows": NOT_DAYROWS}),
+    ("daypapers", "lets_day_ring", {"dayhouse": FERRY, "dayrows": ((0, 0, 0, 0),) * 2, "thing": ((0, 0), (1, 1))},
+     {"dayrows": NOT_DAYROWS}),
+    ("daypapers", "lets_day_stamps",
+     {"dayhouse": FERRY, "dayrows": ((0, 0, 0, 0), (3, 2, 1, 0)), "thing": ((0, 0, 0, 0), (0, 0, 0, -1))},
+     {"dayrows": NOT_DAYROWS}),
+    ("leastrows", "least_row", {"dayhouse": DAYFAR, "dayrows": DAYROWS, "door": 2},
+     {"dayrows": NOT_DAYROWS, "door": DOOR}),
+    ("leastrows", "lowered_rows", {"dayhouse": DAYFAR, "dayrows": DAYROWS, "order": (2, 0, 1)},
+     {"dayrows": NOT_DAYROWS, "order": ORDER}),
+    ("leastrows", "rows_bare", {"dayhouse": DAYFAR, "dayrows": DAYROWS}, {"dayrows": NOT_DAYROWS}),
+    ("dayruns", "is_day_asks", {"dayhouse": DAYFAR, "thing": ASKS}, {}),
+    ("dayruns", "is_day_news", {"dayhouse": DAYFAR, "asks": ASKS, "thing": NEWS}, {"asks": NOT_ASKS}),
+    ("dayruns", "latest_day_news", {"dayhouse": DAYFAR, "asks": ASKS}, {"asks": NOT_ASKS}),
+    ("dayruns", "late_day_letters", {"dayhouse": DAYFAR, "asks": ASKS, "news": NEWS},
+     {"asks": NOT_ASKS, "news": NOT_NEWS}),
+    ("dayruns", "day_run", DAYRUN, NOT_DAYRUN),
+    ("dayruns", "day_spoilt", DAYRUN, NOT_DAYRUN),
+    ("dayruns", "day_breaking", {"dayhouse": DAYFAR, "dayrows": ((0, 0),) * 3, "stamps": DAYSTAMPS},
+     {"dayrows": NOT_DAYROWS, "stamps": NOT_DAYSTAMPS}),
+    ("daytexts", "rows_line", {"dayhouse": DAYFAR, "dayrows": DAYROWS}, {"dayrows": NOT_DAYROWS}),
+    ("daytexts", "read_rows", {"dayhouse": DAYFAR, "text": "1 2; 0 3; 4 4"}, {"text": TEXT}),
+    ("daytexts", "ships_line", {"day": 4, "ships": ((2, 1), (0, 9))}, {"ships": NOT_TUPLES + ((), ((4, 1),), ((0, -1),))}),
+    ("daytexts", "read_ships", {"day": 4, "text": "2 1; 0 9"}, {"text": TEXT}),
+    ("partings", "is_parting", {"size": 3, "thing": (0, 1, 0)}, {}),
+    ("partings", "parts_of", {"parting": (0, 1, 0)}, {}),
+    ("partings", "parting_by", {"size": 3, "lots": ((1,), (0, 2))},
+     {"lots": NOT_TUPLES + ((), ((0, 1),), ((0, 1, 2), ()), ((0, 1), (1, 2)), ((0, 2, 1),), ((0, 1, 2, 3),), ((0, 1), (3,)),
+                            ((0, 1), [2]), [(0, 1, 2)], ((0, True, 2),), ((0, 1), (2, 2)), (0, 1, 2), ((0, -1), (2,)))}),
+    ("partlaw", "is_safe", {"duties": HOP, "parting": (0, 0, 2)}, {"parting": PARTING}),
+    ("partlaw", "unsafe_paper", {"duties": HOP, "parting": (0, 0, 2)}, {"parting": PARTING}),
+    ("partchecker", "lets_unsafe", {"duties": HOP, "parting": (0, 0, 2), "thing": ((0, 1), (2, 2))},
+     {"parting": PARTING}),
+    ("counters", "counter_house", {"duties": HOP, "parting": (0, 0, 2)}, {"parting": PARTING}),
+    ("counters", "counter_history", {"duties": HOP, "parting": (0, 0, 2)}, {"parting": PARTING}),
+    ("joining", "joined_order",
+     {"duties": HOP, "grain": 3, "parting": (0, 0, 2), "deeds": JOINING, "orders": ((0, 1), (2,))},
+     {"grain": GRAIN, "parting": PARTING, "deeds": NOT_JOINING,
+      "orders": NOT_TUPLES + ((), ((0, 1),), ((0, 1), (2,), ()), ((0,), (2,)), ((0, 1), ()), ((0, 1), (1, 2)), ((2,), (0, 1)),
+                              ((0, 0, 1), (2,)), ((0, 1), (3,)), ((0, True), (2,)), ([0, 1], (2,)), [(0, 1), (2,)],
+                              ((0, 1), (None,)), (0, 1, 2))}),
 ]
 
 # The classes of the interface: module, name, parameters; methods with theirs.
@@ -261,6 +342,9 @@ CLASSES = [
      {"order": [], "ring": [], "verdict": [], "late": ["waits"], "kept": ["lot"], "told": []}),
     ("runclasses", "Run", ["house", "grain", "waits", "stamps", "asks", "news"],
      {"history": [], "due": [], "spoilt": [], "cut": ["place", "moment"], "verdict": [], "told": []}),
+    ("dayclasses", "Daybook", ["dayhouse", "dayrows"],
+     {"kept": [], "stamps": [], "ring": [], "answer": ["door", "hour"], "least": ["door"], "bare": ["order"],
+      "run": ["stamps", "asks", "news"], "told": []}),
 ]
 
 # These raise Barred behind all parameters; so also where a later one is wrong, that one is told.

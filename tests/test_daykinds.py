@@ -9,18 +9,10 @@ from bestunmoved.housechecker import lets_house
 from bestunmoved.kinds import is_house
 from tests.helpers import (BIG, NOT_INTEGERS, NOT_NUMBERS, NOT_TUPLES, SHOP, Case, chance, some_house, some_rows,
                            with_item, with_part)
+from tests.slowdays import FERRY, LEAST, NONE, slow_delays, some_delays
 
-# As dayhouse_of makes it: its ways are closed already.
-FERRY = (4, (((0, 0, 0, 0), (3, 2, 1, 4)), ((2, 2, 2, 2), (0, 0, 0, 0))), ("row",), ((0, (0,), ()), (1, (), (0,))),
-         ((0, 0), (0, 0)))
-NONE, LEAST = ((0, 0, 0, 0), (0, 0, 0, 0)), ((0, 0, 0, 0), (3, 2, 1, 0))
 # Three places, a day of two hours: from 0 to 2 by 1.
 RELAY = (2, (((0, 0), (1, 2), (3, 4)), (None, (0, 0), (3, 2)), (None, None, (0, 0))), (), ((0, (), ()),), ((0,),))
-
-
-def slow_delays(day, thing):
-    """Whether a letter that is given an hour later never comes sooner, over three days."""
-    return all(h + thing[h % day] <= h + 1 + thing[(h + 1) % day] for h in range(3 * day))
 
 
 def slow_handing(day, ways):
@@ -41,14 +33,6 @@ def same_day(house, day):
     """The house as a dayhouse, the same at all hours."""
     ways = tuple(tuple(None if way is None else (way,) * day for way in row) for row in house[0])
     return (day, ways) + house[1:]
-
-
-def some_delays(source, day, most=5):
-    """Any delays."""
-    while True:
-        delays = tuple(source.randint(0, most) for _ in range(day))
-        if slow_delays(day, delays):
-            return delays
 
 
 class Delays(Case):

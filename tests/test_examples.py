@@ -6,9 +6,11 @@ import pathlib
 
 from bestunmoved.errors import UnmovedError
 from tests.helpers import RING3, SHOP, Case
+from tests.slowdays import FERRY, LEAST, NONE
 from tests.slowdeeds import MET, MISSED
 
 ONES = ((0, 1, 1), (1, 0, 1), (1, 1, 0))
+HOP = ((0, 3, 1), (None, 0, None), (None, 1, 0))
 
 EXAMPLES = [
     ("kinds", "is_lot(3, (0, 2)), is_lot(3, (0, 3)), is_order(0, ())", "(True, False, True)"),
@@ -84,6 +86,25 @@ EXAMPLES = [
     ("folds", "fold_of(SHOP, 2, (0, 2), (0, 0), ((0, 0), (1, 3)), ((0, 4), (4, 0)), 1, 5)", "(((0,),), ())"),
     ("runtexts", "asks_line(SHOP, ((0, 0), (1, 3)))", "'0 0; 1 3'"),
     ("runtexts", 'program_line(SHOP, (("stamp", 2, -1), ("known", 0, 0)))', "'stamp 2 -1; known 0 0'"),
+    ("dayhouses", "dayhouse_of(4, (((0, 0, 0, 0), (3, 2, 1, 4)), ((2, 2, 2, 2), (0, 0, 0, 0))), ('row',), "
+                  "((0, (0,), ()), (1, (), (0,))), ((0, 0), (0, 0)))", repr(FERRY)),
+    ("delays", "ship_delays(4, ((2, 1),))", "(3, 2, 1, 4)"),
+    ("delays", "closed_delays(2, (((0, 0), (1, 2), None), (None, (0, 0), (3, 2)), (None, None, (0, 0))))[0]",
+     "((0, 0), (1, 2), (3, 4))"),
+    ("delays", "coming((3, 2, 1, 4), -1)", "3"),
+    ("dayarcs", "day_word(FERRY, NONE, (1, 1), (0, 0))", "'sight'"),
+    ("dayarcs", "first_ahead(FERRY, NONE, (1, 1), 0)", "-1"),
+    ("dayjudge", "(day_kept(FERRY, NONE), day_kept(FERRY, LEAST))", "(False, True)"),
+    ("daypapers", "lets_day_ring(FERRY, NONE, ((0, 0), (1, 1)))", "(0, 1)"),
+    ("daypapers", "lets_day_stamps(FERRY, LEAST, ((0, 0, 0, 0), (0, 0, 0, -1)))", "((0, 0, 0, 0), (0, 0, 0, -1))"),
+    ("leastrows", "least_row(FERRY, NONE, 1)", "(3, 2, 1, 0)"),
+    ("dayruns", "day_run(FERRY, LEAST, NONE, ((0, 0), (1, 1)), ((0, 3), (2, 0)))",
+     "((0, 0, 0, ()), (1, 1, 3, ((0,),)))"),
+    ("daytexts", "rows_line(FERRY, LEAST)", "'0 0 0 0; 3 2 1 0'"),
+    ("partings", "(parts_of((0, 1, 0)), parting_by(3, ((1,), (0, 2))))", "(((0, 2), (1,)), (0, 1, 0))"),
+    ("partlaw", "(is_safe(HOP, (0, 0, 2)), is_safe(HOP, (0, 1, 2)))", "(False, True)"),
+    ("partchecker", "lets_unsafe(HOP, (0, 0, 2), ((0, 1), (2, 2)))", "(3, 2)"),
+    ("joining", "joined_order(HOP, 3, (0, 0, 2), ((0, 0, 0), (1, 9, 9), (2, 4, 4)), ((0, 1), (2,)))", "(0, 2, 1)"),
 ]
 
 
@@ -92,7 +113,7 @@ class Examples(Case):
     def test_each(self):
         for module, code, printed in EXAMPLES:
             names = dict(vars(importlib.import_module("bestunmoved." + module)), SHOP=SHOP, RING3=RING3, ONES=ONES,
-                         MET=MET, MISSED=MISSED)
+                         MET=MET, MISSED=MISSED, FERRY=FERRY, NONE=NONE, LEAST=LEAST, HOP=HOP)
             try:
                 got = repr(eval(code, names))
             except UnmovedError as raised:

@@ -88,6 +88,38 @@ JOINING = ((0, 0, 0), (1, 9, 9), (2, 4, 4))
 NOT_JOINING = NOT_TUPLES + (list(JOINING), with_item(JOINING, 0, (0, 0)), with_item(JOINING, 1, [1, 9, 9]),
                             with_item(JOINING, 2, (3, 5, 6)), with_item(JOINING, 2, (2, 5, 4)),
                             with_item(JOINING, 1, (1, True, 2)), with_item(JOINING, 1, (1, -1, 2)))
+ENDS = NOT_TUPLES + ((3,), (0, 3), (-1,), (True,), (0, None), [0, 1], ((0,),), ("0",))
+BEGINS = ENDS + ((), (0,), (0, 1, 2))
+GAINS = ((-1, 0), (None, -2))
+LINKS = NOT_TUPLES + ((), ((0, 1),), ((0, 1),) * 3, ((0,), (1,)), ((0, 1, 2),) * 2, [(0, 1), (1, 0)], ((0, 1), [1, 0]),
+                      ((0, -1), (1, 0)), ((0, True), (1, 0)), ((0, "0"), (1, 0)), (0, 1))
+OUTER = FULL
+FARTABLE = ((0, -1, None), (1, 0, -3), (3, 2, 0))
+PLAN = (((9, 9, 9), (0, 0, 0), 5), ((9, 8, 9), (1, 0, 0), None))
+NOT_PLAN = NOT_TUPLES + ((), PLAN[:1], list(PLAN), PLAN + PLAN[1:], with_part(PLAN, (0,), PLAN[0][:2]),
+                         with_part(PLAN, (0, 0), (9, 9)), with_part(PLAN, (0, 0, 1), -1), with_part(PLAN, (1, 0, 1), True),
+                         with_part(PLAN, (0, 1), (0, 0)), with_part(PLAN, (1, 1, 0), 11), with_part(PLAN, (1, 1, 2), None),
+                         with_part(PLAN, (0, 2), None), with_part(PLAN, (1, 2), 5), with_part(PLAN, (0, 2), "5"),
+                         PLAN[:1] + (((9, 9, 9), (0, 0, 1), 6), PLAN[1]), with_item(PLAN, 1, list(PLAN[1])))
+MOMENTS = NOT_INTEGERS
+PLANNED = {"table": FARTABLE, "grain": 2, "plan": PLAN}
+NOT_PLANNED = {"grain": GRAIN, "plan": NOT_PLAN}
+PLANRUN = {"house": FAR, "grain": 2, "plan": PLAN, "asks": ASKS, "news": NEWS}
+NOT_PLANRUN = {"grain": GRAIN, "plan": NOT_PLAN, "asks": NOT_ASKS, "news": NOT_NEWS}
+OPEN_NEWS = ((0, None, 3), (2, 0, None), (None, None, 0))
+NOT_OPEN_NEWS = NOT_TUPLES + ((), OPEN_NEWS[:2], list(OPEN_NEWS), with_part(OPEN_NEWS, (0, 0), 1),
+                              with_part(OPEN_NEWS, (0, 0), None), with_item(OPEN_NEWS, 1, (2, 0)),
+                              with_part(OPEN_NEWS, (2, 0), 0), with_part(OPEN_NEWS, (1, 0), True),
+                              with_part(OPEN_NEWS, (1, 0), -1), with_item(OPEN_NEWS, 1, [2, 0, None]))
+HELD = NOT_TUPLES + ([(0, 1)], ((0, 1), (0, 1)), ((1, 2), (0, 1)), ((0, 3),), ((3, 0),), ((0,),), ([0, 1],), ((0, True),),
+                     ((0, -1),), ((None, 1),), ((0, 1, 1),), (0, 1))
+LOG = (("ask", 0), ("wait", 3), ("come", 0, 1), ("change", 0, (9, 9, 9), (0, 0, 0), 50))
+NOT_EVENTS = NOT_TUPLES + ((), ("ask",), ("ask", 0, 0), ("asks", 0), ("ask", True), ("ask", -1), ["ask", 0], ("wait", 0),
+                           ("wait", True), ("wait", None), ("come", 0), ("come", 0, -1), ("hold", True, 0), ("hold", 0),
+                           ("change", 0, (1,), (0,)), ("change", -1, (1,), (0,), 5), ("change", 0, [1], (0,), 5),
+                           ("change", 0, (-1,), (0,), 5), ("change", 0, (1,), (True,), 5), ("change", 0, (1,), (0,), None),
+                           ("change", 0, (1,), [0], 5), ("change", 0, (1,), (0,), False), (0, "ask"), ("", 0), (None, 0))
+NOT_LOG = tuple(value for value in NOT_TUPLES + (list(LOG), LOG[0]) + tuple((value,) for value in NOT_EVENTS))
 TEXT = tuple(value for value in NOT_TUPLES if not isinstance(value, str)) + ((), ("places",), (0,))
 
 # Module, name, arguments by name in sequence; wrong values of the parameters that are asked.
@@ -327,6 +359,48 @@ CALLS = [
       "orders": NOT_TUPLES + ((), ((0, 1),), ((0, 1), (2,), ()), ((0,), (2,)), ((0, 1), ()), ((0, 1), (1, 2)), ((2,), (0, 1)),
                               ((0, 0, 1), (2,)), ((0, 1), (3,)), ((0, True), (2,)), ([0, 1], (2,)), [(0, 1), (2,)],
                               ((0, 1), (None,)), (0, 1, 2))}),
+    ("pairings", "pairing_cost", {"duties": HOP, "ends": (0, 2), "begins": (1, 2), "pairing": (1, 0)},
+     {"ends": ENDS, "begins": BEGINS, "pairing": NOT_TUPLES + ((), (0,), (0, 0), (0, 1, 2), (1, 2), (0, True), [0, 1])}),
+    ("pairings", "cheapest_pairing", {"duties": HOP, "ends": (0, 2), "begins": (1, 2)}, {"ends": ENDS, "begins": BEGINS}),
+    ("pairings", "inner_pairing", {"duties": HOP, "parting": (0, 0, 2), "ends": (0, 2), "begins": (1, 2)},
+     {"parting": PARTING, "ends": ENDS, "begins": BEGINS + ((0, 1), (2, 2))}),
+    ("lags", "lags_of", {"duties": ((0, 1, 1), (1, 0, 1), (1, 1, 0)), "parting": (0, 0, 2)}, {"parting": PARTING}),
+    ("lags", "lets_lags", {"duties": ((0, 1, 1), (1, 0, 1), (1, 1, 0)), "parting": (0, 0, 2),
+                           "thing": ((1, 1, 1), (0, 0, 0))}, {"parting": PARTING}),
+    ("pictures", "picture_ring", {"places": (5, 6, 5), "parting": (0, 0, 2)}, {"parting": PARTING}),
+    ("gains", "is_gains", {"size": 2, "thing": GAINS}, {}),
+    ("gains", "gains_of", {"table": RING3, "waits": (1, 2, 3), "outer": (0, 1)}, {"waits": WAITS, "outer": OUTER}),
+    ("gains", "linked_tables", {"table": RING3, "other": FARTABLE, "outer": (0, 2), "far": (1, 2),
+                                "there": ((0, None), (1, 2)), "back": ((3, 0), (None, 1))},
+     {"other": NOT_TUPLES + ((),) + TABLE[-4:], "outer": OUTER, "far": OUTER, "there": LINKS, "back": LINKS}),
+    ("gains", "linked_gains", {"gains": GAINS, "other": GAINS, "there": ((0, None), (1, 2)), "back": ((3, 0), (None, 1))},
+     {"there": LINKS, "back": LINKS}),
+    ("gains", "kept_gains", {"gains": GAINS, "lot": (1,)},
+     {"lot": NOT_TUPLES + ((), (2,), (1, 0), (0, 0), (0, True), (None,), (-1,), (0, 1, 2))}),
+    ("exchanges", "same_gains", {"gains": GAINS, "other": GAINS}, {}),
+    ("exchanges", "telling_part", {"gains": GAINS, "other": ((-1, 0), (7, -2))}, {}),
+    ("plans", "is_plan", {"table": FARTABLE, "grain": 2, "thing": PLAN}, {"grain": GRAIN}),
+    ("plans", "lets_plan", {"table": FARTABLE, "grain": 2, "thing": PLAN}, {"grain": GRAIN}),
+    ("plans", "changes_of", PLANNED, NOT_PLANNED),
+    ("plans", "triple_of", dict(PLANNED, door=1, moment=7), dict(NOT_PLANNED, door=DOOR, moment=MOMENTS)),
+    ("plans", "answer_of", dict(PLANNED, door=1, moment=7), dict(NOT_PLANNED, door=DOOR, moment=MOMENTS)),
+    ("plans", "next_limit", dict(PLANNED, moment=-7), dict(NOT_PLANNED, moment=MOMENTS)),
+    ("plans", "extended", dict(PLANNED, limit=9, waits=(9, 9, 9), stamps=(0, -1, 1)),
+     dict(NOT_PLANNED, limit=NOT_INTEGERS + (6, -9), waits=WAITS, stamps=STAMPS + ((11, 0, 0),))),
+    ("planruns", "plan_standing", {word: value for word, value in PLANRUN.items() if word != "news"},
+     {word: value for word, value in NOT_PLANRUN.items() if word != "news"}),
+    ("planruns", "plan_run", PLANRUN, NOT_PLANRUN),
+    ("planruns", "plan_spoilt", PLANRUN, NOT_PLANRUN),
+    ("liveevents", "is_event", {"thing": ("ask", 0)}, {}),
+    ("liveevents", "is_log", {"thing": LOG}, {}),
+    ("reasons", "reason_of", {"house": FAR, "grain": 2, "plan": PLAN, "asks": ASKS, "news": OPEN_NEWS, "held": ((0, 1),),
+                              "now": 3, "event": ("hold", 0, 1)},
+     dict(NOT_PLANNED, asks=NOT_ASKS, news=NOT_OPEN_NEWS, held=HELD, now=NUMBER)),
+    ("replaying", "cut_log", {"log": LOG, "many": 2}, {"log": NOT_LOG, "many": NUMBER + (5, 10 ** 30)}),
+    ("eventtexts", "event_line", {"event": ("ask", 0)}, {"event": NOT_EVENTS}),
+    ("eventtexts", "log_text", {"log": LOG}, {"log": NOT_LOG}),
+    ("eventtexts", "read_event", {"text": "change 0 waits 1 stamps -1 limit -5"}, {"text": TEXT}),
+    ("eventtexts", "read_log", {"text": "ask 0\nwait 3"}, {"text": TEXT}),
 ]
 
 # The classes of the interface: module, name, parameters; methods with theirs.
@@ -345,6 +419,11 @@ CLASSES = [
     ("dayclasses", "Daybook", ["dayhouse", "dayrows"],
      {"kept": [], "stamps": [], "ring": [], "answer": ["door", "hour"], "least": ["door"], "bare": ["order"],
       "run": ["stamps", "asks", "news"], "told": []}),
+    ("partclasses", "Part", ["table", "waits", "outer"],
+     {"kept": [], "gains": [], "linked": ["other", "there", "back"], "inner": ["lot"], "told": []}),
+    ("live", "LiveHouse", ["house", "grain", "waits", "stamps"],
+     {"ask": ["door"], "wait": ["beats"], "come": ["deed", "place"], "hold": ["deed", "place"],
+      "change": ["place", "waits", "stamps", "limit"], "go": ["event"], "barred": ["event"], "tried": ["events"], "log": []}),
 ]
 
 # These raise Barred behind all parameters; so also where a later one is wrong, that one is told.
@@ -395,6 +474,24 @@ class Calls(Case):
             self.assertEqual(names_of(made), parameters)
             for method, own in methods.items():
                 self.assertEqual(names_of(vars(made)[method]), ["self"] + own)
+
+    def test_open_houses(self):
+        asks = found("liveasks", "LiveAsks")
+        self.assertEqual(asks.__module__, "bestunmoved.liveasks")
+        for method, own in (("now", []), ("plan_now", []), ("asks_now", []), ("news_now", []), ("held_now", []),
+                            ("due_at", ["deed"]), ("shown", ["deed"]), ("waiting", []), ("spoilt", []), ("history", [])):
+            self.assertEqual(names_of(vars(asks)[method]), ["self"] + own)
+        live = found("live", "LiveHouse")
+        self.assertEqual(live.__bases__, (asks,))
+        for method, name, value in (("do_all", "keep", False), ("undo", "steps", 1)):
+            last = list(inspect.signature(vars(live)[method]).parameters.values())[-1]
+            self.assertEqual((last.name, last.default, last.kind), (name, value, last.POSITIONAL_OR_KEYWORD))
+        self.assertEqual(list(inspect.signature(live.do_all).parameters), ["self", "events", "keep"])
+        self.assertEqual(list(inspect.signature(live.undo).parameters), ["self", "steps"])
+        for module, name, own in (("replaying", "replayed", ["house", "grain", "waits", "stamps", "log"]),
+                                  ("desk", "desk_line", ["live", "text"])):
+            self.assertEqual(found(module, name).__module__, "bestunmoved." + module)
+            self.assertEqual(names_of(found(module, name)), own)
 
     def test_asks_of_takes_any_number_of_pairs(self):
         call = found("askkinds", "asks_of")

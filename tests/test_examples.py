@@ -10,6 +10,7 @@ from tests.slowdays import FERRY, LEAST, NONE
 from tests.slowdeeds import MET, MISSED
 
 ONES = ((0, 1, 1), (1, 0, 1), (1, 1, 0))
+PLAN = (((2, 0), (2, 0), 5), ((0, 2), (0, 0), None))
 HOP = ((0, 3, 1), (None, 0, None), (None, 1, 0))
 
 EXAMPLES = [
@@ -105,6 +106,17 @@ EXAMPLES = [
     ("partlaw", "(is_safe(HOP, (0, 0, 2)), is_safe(HOP, (0, 1, 2)))", "(False, True)"),
     ("partchecker", "lets_unsafe(HOP, (0, 0, 2), ((0, 1), (2, 2)))", "(3, 2)"),
     ("joining", "joined_order(HOP, 3, (0, 0, 2), ((0, 0, 0), (1, 9, 9), (2, 4, 4)), ((0, 1), (2,)))", "(0, 2, 1)"),
+    ("pairings", "(cheapest_pairing(HOP, (0, 2), (1, 2)), inner_pairing(HOP, (0, 0, 2), (0, 2), (1, 2)))",
+     "((1, 0), (0, 1))"),
+    ("gains", "gains_of(RING3, (1, 2, 3), (0, 1))", "((-1, 0), (-3, -2))"),
+    ("gains", "linked_gains(((-1, 0), (-3, -2)), ((0,),), ((None,), (0,)), ((2, None),))",
+     "((-1, 0, 0), (-3, -2, -2), (-3, -2, 0))"),
+    ("plans", "changes_of(((0, 0), (2, 0)), 1, PLAN)", "((3, 5),)"),
+    ("plans", "answer_of(((0, 0), (2, 0)), 1, PLAN, 0, 4)", "5"),
+    ("eventtexts", "log_text((('ask', 0), ('wait', 3), ('come', 2, 1), ('hold', 2, 1)))",
+     repr("ask 0\nwait 3\ncome 2 1\nhold 2 1")),
+    ("eventtexts", "event_line(('change', 0, (2, 1), (0, -1), 12))", "'change 0 waits 2 1 stamps 0 -1 limit 12'"),
+    ("desk", "desk_line(LiveHouse(SHOP, 1, (0, 2), (0, 0)), 'plan')", "'waits 0 2 stamps 0 0 limit -'"),
 ]
 
 
@@ -113,7 +125,8 @@ class Examples(Case):
     def test_each(self):
         for module, code, printed in EXAMPLES:
             names = dict(vars(importlib.import_module("bestunmoved." + module)), SHOP=SHOP, RING3=RING3, ONES=ONES,
-                         MET=MET, MISSED=MISSED, FERRY=FERRY, NONE=NONE, LEAST=LEAST, HOP=HOP)
+                         MET=MET, MISSED=MISSED, FERRY=FERRY, NONE=NONE, LEAST=LEAST, HOP=HOP,
+                         PLAN=PLAN)
             try:
                 got = repr(eval(code, names))
             except UnmovedError as raised:

@@ -114,7 +114,7 @@ class Chains(Case):
 
     def test_run_and_spoilt(self):
         spoilt = [0, 0]
-        for source, _, _, house in some_made(120, 1002):
+        for source, _, _, house in some_made(400, 1002):
             table = table_of(house)
             grain = source.randint(1, 3)
             waits = cheapest_waits(table, tuple(source.randint(0, 2) for _ in table))

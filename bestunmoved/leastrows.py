@@ -67,14 +67,11 @@ def row_of(dayhouse, dayrows, door):
 
 
 def costs_of_others(dayhouse, dayrows, door):
-    """The costs of the dayrows, without those of the door."""
+    """The costs of the dayrows without those that lead to the door; so no ring goes through it."""
     day = dayhouse[0]
     costs = []
-    for node, row in enumerate(day_costs(dayhouse, dayrows)):
-        if node // day == door:
-            costs.append([None for _ in row])
-        else:
-            costs.append([None if other // day == door else cost for other, cost in enumerate(row)])
+    for row in day_costs(dayhouse, dayrows):
+        costs.append([None if node // day == door else cost for node, cost in enumerate(row)])
     return costs
 
 

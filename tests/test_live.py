@@ -422,6 +422,14 @@ class Doing(Case):
                       START, "live"):
             self.assertTrue(live != other and not live == other)
         self.assertTrue(LiveHouse(*START) == LiveHouse(*START))
+        # Without events it is the house, the grain, the first waits and the first stamps that tell them apart.
+        first = LiveHouse(*START)
+        for other in (LiveHouse(SHOP, 2, (2, 0), (2, 0)), LiveHouse(SHOP, 1, (2, 1), (2, 0)), LiveHouse(SHOP, 1, (2, 0), (1, -1)),
+                      LiveHouse(with_part(SHOP, (3, 1, 0), 1), *START[1:])):
+            self.assertTrue(first != other and not first == other)
+            other.ask(0)
+            one = replayed(*START, (("ask", 0),))
+            self.assertTrue(one != other and not other == one)
         # The same moments by other events are not the same log.
         self.assertFalse(replayed(*START, (("wait", 2),)) == replayed(*START, (("wait", 1), ("wait", 1))))
 

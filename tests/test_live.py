@@ -354,6 +354,12 @@ class Doing(Case):
             self.fails(InvalidEvent, (bad, reason), live.do_all, (("wait", 1), ("ask", 0), bad, ("ask", 1)), keep=True)
             self.same(live.log(), fine + (("wait", 1), ("ask", 0)))
             live.undo(2)
+            # Where the last one is not let.
+            self.fails(InvalidEvent, (bad, reason), live.do_all, (("wait", 1), bad))
+            self.same((told_by(live), live.log()), (before, fine))
+            self.fails(InvalidEvent, (bad, reason), live.do_all, (("wait", 1), bad), True)
+            self.same((live.log(), live.now()), (fine + (("wait", 1),), 3))
+            live.undo()
         # What would be let where all was taken back is not let behind the others.
         self.fails(InvalidEvent, (("hold", 0, 1), "held"), live.do_all, (("hold", 0, 1), ("hold", 0, 1)))
         self.same(told_by(live), before)

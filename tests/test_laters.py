@@ -46,6 +46,9 @@ class Laters(Case):
         self.same(later_by(SHOP, (0, 2 + BIG)), BIG)
         self.same(way_room(SHOP, (0, 2 + BIG), 0, 1), BIG)
         self.same(later_by(LONE, (0,)), None)
+        # All waits and a duty are what a ring over a way of 0 leaves.
+        swift = (((0, 0), (0, 0)),) + SHOP[1:3] + (((0, 5), (0, 0)),)
+        self.same((later_by(swift, (1, 1)), way_room(swift, (1, 1), 0, 1)), (7, 7))
         # Only doors at one place see each other: no way is used.
         near = (SHOP[0], SHOP[1], ((0, (0,), ()), (0, (), (0,))), SHOP[3])
         self.same((later_by(near, (0, 0)), way_room(near, (0, 0), 0, 1)), (None, None))

@@ -13,7 +13,7 @@ from bestunmoved.coarse import is_kept_at
 from bestunmoved.leastrows import least_row, lowered_rows, rows_bare
 from bestunmoved.leastwaits import least_wait
 from bestunmoved.tables import table_of
-from tests.helpers import (BIG, LONE, NOT_INTEGERS, NOT_NUMBERS, NOT_TUPLES, SHOP, Case, chance, some_house, with_item,
+from tests.helpers import (BIG, LONE, NOT_INTEGERS, NOT_NUMBERS, NOT_TUPLES, Case, chance, some_house, with_item,
                            with_part)
 from tests.slowdeeds import seen_house
 from tests.slowdays import (CIRCLE, FERRY, LEAST, NONE, slow_answer, slow_day_kept, slow_day_rings, slow_day_suits,

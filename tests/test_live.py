@@ -12,7 +12,7 @@ from bestunmoved.plans import next_limit
 from bestunmoved.reasons import reason_of
 from bestunmoved.replaying import cut_log, replayed
 from bestunmoved.tables import table_of
-from tests.helpers import BIG, NOT_INTEGERS, NOT_NUMBERS, NOT_TUPLES, SHOP, Case, chance, with_item, with_part
+from tests.helpers import BIG, NOT_NUMBERS, NOT_TUPLES, SHOP, Case, chance, with_item, with_part
 from tests.slowlive import SlowHouse, slow_event, slow_reason, some_live_event, some_start, told_by
 from tests.slowplans import some_kept, some_plan
 from tests.slowruns import POST, place_of, some_asks
